@@ -1,0 +1,1 @@
+"""Likecuts: a sheet told by distances, laid as fairly as can be."""
