@@ -3,10 +3,10 @@
 import os
 import unittest
 
-from likecuts import errors, fractions, scales
+from likecuts import errors, fractions, layouts, levels, scales, sheets, towers
 
-MODULES = (errors, fractions, scales)
-MANY = {4: 5, 5: 5}
+MODULES = (errors, fractions, scales, sheets, layouts, levels, towers)
+MANY = {4: 5, 5: 5, 6: 7, 7: 4, 8: 7, 9: 7}
 
 
 def read_examples():

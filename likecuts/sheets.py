@@ -1,0 +1,276 @@
+"""SHEETS: triples (n, hard, counted) of how many THINGS there are, of hard RULES, and of counted ones."""
+
+from likecuts.errors import Afloat, CanNot, Loose, NoPlace, NoRoom, TooMuch
+from likecuts.fractions import ZERO, is_fraction, is_number, minus, order, plus, total
+from likecuts.nets import climb, farthest, fast_lots, joints_of, marks_in, mutual_lots, reached, turned_round
+from likecuts.scales import is_scale
+
+WORDS = ("hard", "ease")
+MOST_RINGS = 2000
+
+
+def tupled(told):
+    """The same value with a tuple for each list, at any depth."""
+    return tuple([tupled(own) for own in told]) if isinstance(told, (list, tuple)) else told
+
+
+def is_triple(thing):
+    """Whether thing is a triple."""
+    return isinstance(thing, tuple) and len(thing) == 3
+
+
+def is_thing_of(many, thing):
+    """Whether thing is one of so many THINGS."""
+    return is_number(thing) and 0 <= thing < many
+
+
+def is_rule(many, thing):
+    """Whether thing is a triple of two unlike ones of so many THINGS and of one thing more."""
+    return is_triple(thing) and is_thing_of(many, thing[0]) and is_thing_of(many, thing[1]) and thing[0] != thing[1]
+
+
+def is_sheet(thing):
+    """Whether thing is a SHEET."""
+    if not is_triple(thing):
+        return False
+    many, hard, counted = thing
+    if not is_number(many) or many < 1 or not isinstance(hard, tuple) or not isinstance(counted, tuple):
+        return False
+    if not all(is_rule(many, rule) and is_fraction(rule[2]) for rule in hard):
+        return False
+    return all(is_rule(many, rule) and is_scale(rule[2]) for rule in counted)
+
+
+def marks_of(sheet):
+    """The tuple of the marks of all RULES, hard ones first."""
+    hard = [("hard", k) for k in range(len(sheet[1]))]
+    return tuple(hard + [("ease", k) for k in range(len(sheet[2]))])
+
+
+def is_mark(sheet, thing):
+    """Whether thing is the mark of a RULE of this SHEET."""
+    if not isinstance(thing, tuple) or len(thing) != 2 or not isinstance(thing[0], str) or thing[0] not in WORDS:
+        return False
+    return is_thing_of(len(sheet[1 + WORDS.index(thing[0])]), thing[1])
+
+
+def told_by(sheet, mark):
+    """The RULE with this mark, which there is."""
+    return sheet[1 + WORDS.index(mark[0])][mark[1]]
+
+
+def rule_of(sheet, mark):
+    """The RULE with this mark; NoPlace(mark) if there is none."""
+    sheet, mark = tupled(sheet), tupled(mark)
+    if not is_mark(sheet, mark):
+        raise NoPlace(mark)
+    return told_by(sheet, mark)
+
+
+def hard_net(sheet):
+    """The arcs of the hard RULES."""
+    return [(i, j, far, None, ("hard", k)) for k, (i, j, far) in enumerate(sheet[1])]
+
+
+def counted_net(sheet):
+    """The arcs of the counted RULES."""
+    return [(i, j, ZERO, scale, ("ease", k)) for k, (i, j, scale) in enumerate(sheet[2])]
+
+
+def net_of(sheet):
+    """The arcs of all RULES, hard ones first."""
+    return hard_net(sheet) + counted_net(sheet)
+
+
+def are_marks(sheet, thing):
+    """Whether thing is a tuple of marks of this SHEET."""
+    return isinstance(thing, tuple) and all(is_mark(sheet, mark) for mark in thing)
+
+
+def is_ring(sheet, thing):
+    """Whether thing is a RING of this SHEET."""
+    if not are_marks(sheet, thing) or not thing:
+        return False
+    rules = [told_by(sheet, mark) for mark in thing]
+    starts, ends = [rule[0] for rule in rules], [rule[1] for rule in rules]
+    return ends == starts[1:] + starts[:1] and len(set(starts)) == len(starts)
+
+
+def rings(sheet):
+    """The ascending list of the RINGS that begin with their least mark; TooMuch() if there are more than 2,000."""
+    sheet = tupled(sheet)
+    found = []
+    for first in marks_of(sheet):
+        # Each RING is found but once if it is looked for from its least mark on.
+        rules = [(told_by(sheet, mark), mark) for mark in marks_of(sheet) if mark > first]
+        add_rings(rules, told_by(sheet, first), first, found)
+    return sorted(found)
+
+
+def add_rings(rules, rule, first, found):
+    """Adds to found the RINGS of a first RULE and of these, pairs (rule, mark)."""
+    ways = [([rule[0]], rule[1], (first,))]
+    while ways:
+        things, end, marks = ways.pop()
+        if end == things[0]:
+            found.append(marks)
+            if len(found) > MOST_RINGS:
+                raise TooMuch()
+            continue
+        for (i, j, _), mark in rules:
+            if i == end and j not in things[1:]:
+                ways.append((things + [end], j, marks + (mark,)))
+
+
+def ring_far(sheet, ring):
+    """The sum of far of the hard RULES of a RING."""
+    return total([told_by(sheet, mark)[2] for mark in ring if mark[0] == "hard"])
+
+
+def no_room(sheet):
+    """A RING without room; None if there is none."""
+    ring = climb(hard_net(tupled(sheet)), ZERO)[1]
+    return None if ring is None else marks_in(ring)
+
+
+def are_hard(marks):
+    """Whether all marks are those of hard RULES."""
+    return all(mark[0] == "hard" for mark in marks)
+
+
+def is_no_room(sheet, thing):
+    """Whether thing is a RING without room."""
+    return is_ring(sheet, thing) and are_hard(thing) and order(ring_far(sheet, thing), ZERO) > 0
+
+
+def loose_lot(sheet):
+    """A CUT that some counted RULE enters and no RULE leaves; None if there is none."""
+    sheet = tupled(sheet)
+    joints = joints_of(net_of(sheet))
+    for i, j, _ in sheet[2]:
+        lot = reached(joints, j)
+        if i not in lot:
+            return tuple(sorted(lot))
+    return None
+
+
+def is_lot(many, thing):
+    """Whether thing is a set of some of so many THINGS."""
+    if not isinstance(thing, tuple) or not all(is_thing_of(many, own) for own in thing):
+        return False
+    return all(thing[at - 1] < thing[at] for at in range(1, len(thing)))
+
+
+def is_loose_lot(sheet, thing):
+    """Whether thing is a CUT that some counted RULE enters and no RULE leaves."""
+    if not is_lot(sheet[0], thing):
+        return False
+    if any(i in thing and j not in thing for i, j, _ in list(sheet[1]) + list(sheet[2])):
+        return False
+    return any(i not in thing and j in thing for i, j, _ in sheet[2])
+
+
+def must_be_things(sheet, numbers):
+    """Raises NoPlace(number) for the first number that is no THING."""
+    for number in numbers:
+        if not is_thing_of(sheet[0], number):
+            raise NoPlace(number)
+
+
+def must_have_room(sheet):
+    """Raises NoRoom(ring) if there is a RING without room."""
+    ring = no_room(sheet)
+    if ring is not None:
+        raise NoRoom(ring)
+
+
+def hard_gap(sheet, i, j):
+    """The sum of far of a CHAIN from i to j; None if there is no way."""
+    sheet = tupled(sheet)
+    must_be_things(sheet, (i, j))
+    must_have_room(sheet)
+    return farthest(hard_net(sheet), ZERO, i).get(j)
+
+
+def chain(sheet, i, j):
+    """Of the CHAINS from i to j with the fewest marks the least; CanNot() if there is no way."""
+    sheet = tupled(sheet)
+    must_be_things(sheet, (i, j))
+    must_have_room(sheet)
+    gaps = farthest(turned_round(hard_net(sheet)), ZERO, j)
+    if i not in gaps:
+        raise CanNot()
+    # Only RULES that lose nothing of the greatest sum to j stand in a CHAIN.
+    arcs = [arc for arc in hard_net(sheet) if arc[1] in gaps and gaps[arc[0]] == plus(arc[2], gaps[arc[1]])]
+    many = fewest(arcs, j)
+    marks, at = [], i
+    while at != j:
+        arc = [own for own in arcs if own[0] == at and many[own[1]] == many[at] - 1][0]
+        marks.append(arc[4])
+        at = arc[1]
+    return tuple(marks)
+
+
+def fewest(arcs, goal):
+    """The dict from each node from which goal can be come to, to the number of arcs of the shortest way there."""
+    many, nodes = {goal: 0}, [goal]
+    place = 0
+    while place < len(nodes):
+        for arc in arcs:
+            if arc[1] == nodes[place] and arc[0] not in many:
+                many[arc[0]] = many[arc[1]] + 1
+                nodes.append(arc[0])
+        place = place + 1
+    return many
+
+
+def is_way(sheet, i, j, thing):
+    """Whether thing is a way from i to j."""
+    if not are_marks(sheet, thing) or not are_hard(thing):
+        return False
+    rules = [told_by(sheet, mark) for mark in thing]
+    things = [i] + [rule[1] for rule in rules]
+    return [rule[0] for rule in rules] == things[:-1] and things[-1] == j and len(set(things)) == len(things)
+
+
+def is_chain(sheet, i, j, thing):
+    """Whether thing is a CHAIN from i to j."""
+    gap = hard_gap(sheet, i, j)
+    return is_way(sheet, i, j, thing) and ring_far(sheet, thing) == gap
+
+
+def spans(sheet):
+    """The tuple of the pairs of the least place and the greatest one that each THING has in LAYOUTS, or None."""
+    sheet = tupled(sheet)
+    must_have_room(sheet)
+    ahead = farthest(hard_net(sheet), ZERO, 0)
+    back = farthest(turned_round(hard_net(sheet)), ZERO, 0)
+    return tuple([(ahead.get(j), minus(ZERO, back[j]) if j in back else None) for j in range(sheet[0])])
+
+
+def hung_lots(sheet):
+    """The set of the sets of THINGS that hang together."""
+    sheet = tupled(sheet)
+    must_have_room(sheet)
+    hard = hard_net(sheet)
+    fast = fast_lots(hard, climb(hard, ZERO)[0])
+    pairs = joints_of(counted_net(sheet)) + [(lot[0], own) for lot in fast for own in lot]
+    return tuple(mutual_lots(list(range(sheet[0])), pairs + [(j, i) for i, j in pairs]))
+
+
+def stands(sheet):
+    """Whether sheet stands."""
+    return no_room(sheet) is None and loose_lot(sheet) is None and len(hung_lots(sheet)) == 1
+
+
+def standing(sheet):
+    """sheet, made of tuples; NoRoom(ring), Loose(lot), Afloat(lot) if it does not stand."""
+    sheet = tupled(sheet)
+    must_have_room(sheet)
+    lot = loose_lot(sheet)
+    if lot is not None:
+        raise Loose(lot)
+    lots = hung_lots(sheet)
+    if len(lots) > 1:
+        raise Afloat(tuple([own for own in range(sheet[0]) if own not in lots[0]]))
+    return sheet
