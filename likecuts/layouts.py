@@ -72,5 +72,4 @@ def fairer(sheet, one, other):
 
 def mix_of(sheet, one, other, share):
     """The tuple of the places that lie share of the way from those in one to those in other."""
-    places = zip(one, other)
-    return tuple([plus(place, times(share, minus(goal, place))) for place, goal in places])
+    return tuple([plus(place, times(share, minus(goal, place))) for place, goal in zip(one, other)])

@@ -42,7 +42,7 @@ def joints_of(arcs):
 
 
 def is_closed(arcs):
-    """Whether these arcs, in this order, are a ring."""
+    """Whether these arcs, or RULES, are a ring in this order."""
     tails, heads = [arc[0] for arc in arcs], [arc[1] for arc in arcs]
     return len(arcs) > 0 and heads == tails[1:] + tails[:1] and len(set(tails)) == len(tails)
 

@@ -2,7 +2,7 @@
 
 from likecuts.errors import Afloat, CanNot, Loose, NoPlace, NoRoom, TooMuch
 from likecuts.fractions import ZERO, is_fraction, is_number, minus, order, plus, total
-from likecuts.nets import climb, farthest, fast_lots, joints_of, marks_in, mutual_lots, reached, turned_round
+from likecuts.nets import climb, farthest, fast_lots, is_closed, joints_of, marks_in, mutual_lots, reached, turned_round
 from likecuts.scales import is_scale
 
 WORDS = ("hard", "ease")
@@ -61,10 +61,10 @@ def told_by(sheet, mark):
 
 def rule_of(sheet, mark):
     """The RULE with this mark; NoPlace(mark) if there is none."""
-    sheet, mark = tupled(sheet), tupled(mark)
+    mark = tupled(mark)
     if not is_mark(sheet, mark):
         raise NoPlace(mark)
-    return told_by(sheet, mark)
+    return tupled(told_by(sheet, mark))
 
 
 def hard_net(sheet):
@@ -89,16 +89,11 @@ def are_marks(sheet, thing):
 
 def is_ring(sheet, thing):
     """Whether thing is a RING of this SHEET."""
-    if not are_marks(sheet, thing) or not thing:
-        return False
-    rules = [told_by(sheet, mark) for mark in thing]
-    starts, ends = [rule[0] for rule in rules], [rule[1] for rule in rules]
-    return ends == starts[1:] + starts[:1] and len(set(starts)) == len(starts)
+    return are_marks(sheet, thing) and is_closed([told_by(sheet, mark) for mark in thing])
 
 
 def rings(sheet):
     """The ascending list of the RINGS that begin with their least mark; TooMuch() if there are more than 2,000."""
-    sheet = tupled(sheet)
     found = []
     for first in marks_of(sheet):
         # Each RING is found but once if it is looked for from its least mark on.
@@ -129,7 +124,7 @@ def ring_far(sheet, ring):
 
 def no_room(sheet):
     """A RING without room; None if there is none."""
-    ring = climb(hard_net(tupled(sheet)), ZERO)[1]
+    ring = climb(hard_net(sheet), ZERO)[1]
     return None if ring is None else marks_in(ring)
 
 
@@ -145,7 +140,6 @@ def is_no_room(sheet, thing):
 
 def loose_lot(sheet):
     """A CUT that some counted RULE enters and no RULE leaves; None if there is none."""
-    sheet = tupled(sheet)
     joints = joints_of(net_of(sheet))
     for i, j, _ in sheet[2]:
         lot = reached(joints, j)
@@ -165,9 +159,9 @@ def is_loose_lot(sheet, thing):
     """Whether thing is a CUT that some counted RULE enters and no RULE leaves."""
     if not is_lot(sheet[0], thing):
         return False
-    if any(i in thing and j not in thing for i, j, _ in list(sheet[1]) + list(sheet[2])):
+    if any(i in thing and j not in thing for i, j in joints_of(net_of(sheet))):
         return False
-    return any(i not in thing and j in thing for i, j, _ in sheet[2])
+    return any(i not in thing and j in thing for i, j in joints_of(counted_net(sheet)))
 
 
 def must_be_things(sheet, numbers):
@@ -186,7 +180,6 @@ def must_have_room(sheet):
 
 def hard_gap(sheet, i, j):
     """The sum of far of a CHAIN from i to j; None if there is no way."""
-    sheet = tupled(sheet)
     must_be_things(sheet, (i, j))
     must_have_room(sheet)
     return farthest(hard_net(sheet), ZERO, i).get(j)
@@ -194,7 +187,6 @@ def hard_gap(sheet, i, j):
 
 def chain(sheet, i, j):
     """Of the CHAINS from i to j with the fewest marks the least; CanNot() if there is no way."""
-    sheet = tupled(sheet)
     must_be_things(sheet, (i, j))
     must_have_room(sheet)
     gaps = farthest(turned_round(hard_net(sheet)), ZERO, j)
@@ -241,7 +233,6 @@ def is_chain(sheet, i, j, thing):
 
 def spans(sheet):
     """The tuple of the pairs of the least place and the greatest one that each THING has in LAYOUTS, or None."""
-    sheet = tupled(sheet)
     must_have_room(sheet)
     ahead = farthest(hard_net(sheet), ZERO, 0)
     back = farthest(turned_round(hard_net(sheet)), ZERO, 0)
@@ -250,7 +241,6 @@ def spans(sheet):
 
 def hung_lots(sheet):
     """The set of the sets of THINGS that hang together."""
-    sheet = tupled(sheet)
     must_have_room(sheet)
     hard = hard_net(sheet)
     fast = fast_lots(hard, climb(hard, ZERO)[0])

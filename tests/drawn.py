@@ -60,3 +60,76 @@ def pair(number):
 def listed(value):
     """The same value with a list for each tuple, at any depth."""
     return [listed(own) for own in value] if isinstance(value, (tuple, list)) else value
+
+
+def drawn_sheet(row, most=5, rules=7):
+    """The next SHEET, maybe one that does not stand: RULES alike, there and back, fast RINGS, hard RULES of 0."""
+    many = row.between(1, most)
+    if many == 1:
+        return (1, (), ())
+    places = [Fraction(0)] + [Fraction(row.between(-6, 6), row.one_of((1, 1, 2))) for _ in range(many - 1)]
+    hard, counted = [], []
+    for _ in range(row.between(0, rules)):
+        i = row.below(many)
+        j = (i + 1 + row.below(many - 1)) % many
+        gap = places[j] - places[i]
+        kind = row.below(12)
+        if kind < 3:
+            # Kept by these places, often just kept.
+            hard.append((i, j, pair(gap - row.one_of((0, 0, 1, Fraction(5, 2))))))
+        elif kind == 3:
+            hard += [(i, j, pair(gap)), (j, i, pair(-gap))]
+        elif kind == 4:
+            hard.append((i, j, row.one_of(((0, 1), (0, 1), row.fraction(8)))))
+        elif kind == 5 and hard:
+            hard.append(row.one_of(hard))
+        elif kind == 6 and counted:
+            counted.append(row.one_of(counted))
+        elif kind == 7:
+            counted += [(i, j, row.scale()), (j, i, row.scale())]
+        else:
+            counted.append((i, j, row.one_of((PLAIN, row.scale(), row.scale(2)))))
+    return (many, tuple(hard), tuple(counted))
+
+
+PLAIN = (((0, 1), (0, 1)), ((1, 1), (1, 1)))
+
+
+def drawn_round_sheet(row, most=5, rules=8):
+    """The next SHEET of two THINGS or more on one RING at least, in which no RING is without room; so most stand."""
+    many = row.between(2, most)
+    places = [Fraction(0)] + [Fraction(row.between(-6, 6), row.one_of((1, 1, 2))) for _ in range(many - 1)]
+    left, around = list(range(many)), []
+    while left:
+        around.append(left.pop(row.below(len(left))))
+    steps = list(zip(around, around[1:] + around[:1]))
+    for _ in range(row.between(0, rules - many)):
+        i = row.below(many)
+        steps.append(row.one_of(steps) if row.below(5) == 0 else (i, (i + 1 + row.below(many - 1)) % many))
+    hard, counted = [], []
+    for i, j in steps:
+        if row.below(5) < 2:
+            less = row.one_of((0, 0, 0, 1, Fraction(5, 2), 7))
+            hard.append((i, j, pair(places[j] - places[i] - less)))
+            if row.below(6) == 0:
+                hard.append((j, i, pair(places[i] - places[j])))
+        else:
+            counted.append((i, j, row.one_of((PLAIN, PLAIN, row.scale(), row.scale(2)))))
+    return (many, tuple(hard), tuple(counted))
+
+
+def drawn_round_sheets(seed, many, most=5, rules=8):
+    """So many SHEETS, most of which stand."""
+    row = Row(seed)
+    return [drawn_round_sheet(row, most, rules) for _ in range(many)]
+
+
+def drawn_sheets(seed, many, most=5, rules=7):
+    """So many SHEETS."""
+    row = Row(seed)
+    return [drawn_sheet(row, most, rules) for _ in range(many)]
+
+
+def drawn_places(row, many):
+    """The next places for so many THINGS, as Python's own fractions."""
+    return [Fraction(row.between(-9, 9), row.one_of((1, 1, 2, 3))) for _ in range(many)]

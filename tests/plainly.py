@@ -1,0 +1,296 @@
+"""What the document says, gone through plainly: all RINGS, all CUTS, all ways, in Python's own fractions.
+
+Nothing here is taken from the package.
+"""
+
+from fractions import Fraction
+from itertools import combinations, permutations, product
+
+
+def marks(sheet):
+    return [("hard", k) for k in range(len(sheet[1]))] + [("ease", k) for k in range(len(sheet[2]))]
+
+
+def rule(sheet, mark):
+    return sheet[1 if mark[0] == "hard" else 2][mark[1]]
+
+
+def ease_for(scale, gap):
+    corners = [(Fraction(*own), Fraction(*ease)) for own, ease in scale]
+    at = 1
+    while at < len(corners) - 1 and gap > corners[at][0]:
+        at += 1
+    (low, base), (high, top) = corners[at - 1], corners[at]
+    return base + (gap - low) * (top - base) / (high - low)
+
+
+def gap_for(scale, ease):
+    return ease_for([(own, gap) for gap, own in scale], ease)
+
+
+def all_rings(sheet):
+    """All RINGS that begin with their least mark."""
+    found = []
+    between = marks_between(sheet)
+    for many in range(2, sheet[0] + 1):
+        for things in permutations(range(sheet[0]), many):
+            if things[0] != min(things):
+                continue
+            rows = [between.get(step, []) for step in zip(things, things[1:] + things[:1])]
+            for ring in product(*rows):
+                least = ring.index(min(ring))
+                found.append(ring[least:] + ring[:least])
+    return sorted(found)
+
+
+def marks_between(sheet):
+    """The dict from each pair of THINGS to the marks of the RULES from the one to the other."""
+    found = {}
+    for mark in marks(sheet):
+        found.setdefault(rule(sheet, mark)[:2], []).append(mark)
+    return found
+
+
+def hard_rings(sheet):
+    return [ring for ring in all_rings(sheet) if all(word == "hard" for word, _ in ring)]
+
+
+def counted_rings(sheet):
+    return [ring for ring in all_rings(sheet) if any(word == "ease" for word, _ in ring)]
+
+
+def hard_sum(sheet, ring):
+    return sum((Fraction(*rule(sheet, mark)[2]) for mark in ring if mark[0] == "hard"), Fraction(0))
+
+
+def sum_at(sheet, ring, ease):
+    return hard_sum(sheet, ring) + sum(gap_for(rule(sheet, mark)[2], ease) for mark in ring if mark[0] == "ease")
+
+
+def ring_things(sheet, ring):
+    return [rule(sheet, mark)[0] for mark in ring]
+
+
+def without_room(sheet):
+    return [ring for ring in hard_rings(sheet) if hard_sum(sheet, ring) > 0]
+
+
+def all_cuts(sheet):
+    return [cut for many in range(1, sheet[0]) for cut in combinations(range(sheet[0]), many)]
+
+
+def leaves(own, cut):
+    return own[0] in cut and own[1] not in cut
+
+
+def enters(own, cut):
+    return own[0] not in cut and own[1] in cut
+
+
+def loose_lots(sheet):
+    both = sheet[1] + sheet[2]
+    return [cut for cut in all_cuts(sheet) if not any(leaves(own, cut) for own in both)
+            and any(enters(own, cut) for own in sheet[2])]
+
+
+def all_ways(sheet, i, j):
+    """All ways from i to j, by hard RULES."""
+    if i == j:
+        return [()]
+    between = [own for own in range(sheet[0]) if own not in (i, j)]
+    found, hard = [], marks_between((sheet[0], sheet[1], ()))
+    for many in range(len(between) + 1):
+        for middle in permutations(between, many):
+            things = (i,) + middle + (j,)
+            found += list(product(*[hard.get(step, []) for step in zip(things, things[1:])]))
+    return found
+
+
+def hung(sheet):
+    """The set of the sets of THINGS that hang together."""
+    names = list(range(sheet[0]))
+    joined = [(i, j) for i, j, _ in sheet[2]]
+    for ring in hard_rings(sheet):
+        if hard_sum(sheet, ring) == 0:
+            joined += [(ring_things(sheet, ring)[0], own) for own in ring_things(sheet, ring)]
+    for i, j in joined:
+        names = [names[i] if own == names[j] else own for own in names]
+    return tuple(sorted(tuple(k for k in range(sheet[0]) if names[k] == own) for own in set(names)))
+
+
+def does_stand(sheet):
+    on_rings = {mark for ring in counted_rings(sheet) for mark in ring}
+    return (not without_room(sheet) and all(("ease", k) in on_rings for k in range(len(sheet[2])))
+            and len(hung(sheet)) == 1)
+
+
+def gap(layout, own):
+    return Fraction(*layout[own[1]]) - Fraction(*layout[own[0]])
+
+
+def keeps(sheet, layout):
+    """Whether a tuple of FRACTIONS is a LAYOUT."""
+    return (len(layout) == sheet[0] and layout[0] == (0, 1)
+            and all(gap(layout, own) >= Fraction(*own[2]) for own in sheet[1]))
+
+
+def eases(sheet, layout):
+    return [ease_for(own[2], gap(layout, own)) for own in sheet[2]]
+
+
+def is_tight(layout, own):
+    return gap(layout, own) == Fraction(*own[2])
+
+
+def like(sheet, layout, cut):
+    if any(leaves(own, cut) and is_tight(layout, own) for own in sheet[1]):
+        return True
+    told = eases(sheet, layout)
+    out = [told[k] for k, own in enumerate(sheet[2]) if leaves(own, cut)]
+    into = [told[k] for k, own in enumerate(sheet[2]) if enters(own, cut)]
+    return not into or (bool(out) and min(out) <= min(into))
+
+
+def has_reasons(sheet, layout):
+    """Whether each counted RULE lies on a RING of tight hard RULES and of counted ones of no more ease."""
+    told, rows = eases(sheet, layout), counted_rings(sheet)
+
+    def holds(ring, k):
+        return ("ease", k) in ring and all(
+            told[at] <= told[k] if word == "ease" else is_tight(layout, sheet[1][at]) for word, at in ring)
+    return all(any(holds(ring, k) for ring in rows) for k in range(len(sheet[2])))
+
+
+def level(sheet, ring):
+    """The ease at which a RING closes: looked for between the eases of corners, where its sum goes straight on."""
+    told = [rule(sheet, mark)[2] for mark in ring if mark[0] == "ease"]
+    some = sorted({Fraction(*ease) for scale in told for _, ease in scale})
+    at = 0
+    while at < len(some) - 2 and sum_at(sheet, ring, some[at + 1]) < 0:
+        at += 1
+    low, high = some[at], some[at + 1]
+    base, top = sum_at(sheet, ring, low), sum_at(sheet, ring, high)
+    return low - base * (high - low) / (top - base)
+
+
+def compare(mine, yours):
+    """1 if the first eases, put in order, are fairer, -1 if the others are, 0 otherwise."""
+    mine, yours = sorted(mine), sorted(yours)
+    return (mine > yours) - (mine < yours)
+
+
+class Tower:
+    """LOTS as dicts from THINGS to places, put together just as [9] tells it."""
+
+    def __init__(self, sheet):
+        self.sheet = sheet
+        self.lots = [{own: Fraction(0)} for own in range(sheet[0])]
+        self.put_fast()
+
+    def lot_of(self, thing):
+        return [at for at, lot in enumerate(self.lots) if thing in lot][0]
+
+    def is_round(self, ring):
+        if len(ring) < 2:
+            return False
+        starts = [self.lot_of(rule(self.sheet, mark)[0]) for mark in ring]
+        ends = [self.lot_of(rule(self.sheet, mark)[1]) for mark in ring]
+        return len(set(starts)) == len(starts) and ends == starts[1:] + starts[:1]
+
+    def told(self, mark, ease):
+        own = rule(self.sheet, mark)
+        return Fraction(*own[2]) if mark[0] == "hard" else gap_for(own[2], ease)
+
+    def comes_to(self, ring, ease):
+        total = Fraction(0)
+        for mark, behind in zip(ring, ring[1:] + ring[:1]):
+            lot = self.lots[self.lot_of(rule(self.sheet, behind)[0])]
+            total += self.told(mark, ease) + lot[rule(self.sheet, behind)[0]] - lot[rule(self.sheet, mark)[1]]
+        return total
+
+    def put(self, ring, ease):
+        made, at = {}, Fraction(0)
+        for mark in ring:
+            i, j = rule(self.sheet, mark)[:2]
+            lot = self.lots[self.lot_of(i)]
+            # at is the place of i.
+            made.update({own: at + lot[own] - lot[i] for own in lot})
+            at += self.told(mark, ease)
+            behind = ring[(ring.index(mark) + 1) % len(ring)]
+            lot = self.lots[self.lot_of(j)]
+            at += lot[rule(self.sheet, behind)[0]] - lot[j]
+        self.lots = [lot for lot in self.lots if not set(lot) & set(made)] + [made]
+
+    def rounds(self):
+        """All ROUNDS that begin with their least mark."""
+        found = set()
+        between = [own for own in marks(self.sheet)
+                   if self.lot_of(rule(self.sheet, own)[0]) != self.lot_of(rule(self.sheet, own)[1])]
+        step = {own: (self.lot_of(rule(self.sheet, own)[0]), self.lot_of(rule(self.sheet, own)[1])) for own in between}
+        for many in range(2, len(self.lots) + 1):
+            for some in permutations(range(len(self.lots)), many):
+                rows = [[own for own in between if step[own] == pair] for pair in zip(some, some[1:] + some[:1])]
+                found.update(ring for ring in product(*rows) if ring[0] == min(ring))
+        return sorted(found)
+
+    def put_fast(self):
+        while True:
+            fast = [ring for ring in self.rounds() if all(word == "hard" for word, _ in ring)
+                    and self.comes_to(ring, None) == 0]
+            if not fast:
+                return
+            self.put(fast[0], None)
+
+    def open_places(self):
+        return [k for k, own in enumerate(self.sheet[2]) if self.lot_of(own[0]) != self.lot_of(own[1])]
+
+
+def tower_leads(sheet, stages):
+    """The places that stages, pairs of a FRACTION and a tuple of marks of sheet, tell as a TOWER; None if they are none.
+
+    The error of each kind is looked for just where [9] tells of it.
+    """
+    tower, ahead, last = Tower(sheet), [], None
+    for told, ring in stages:
+        ease = Fraction(*told)
+        if not tower.is_round(ring) or not any(word == "ease" for word, _ in ring):
+            return None
+        if tower.comes_to(ring, ease) != 0 or (last is not None and ease < last):
+            return None
+        ahead.append((ease, tower.open_places()))
+        tower.put(ring, ease)
+        tower.put_fast()
+        last = ease
+    if len(tower.lots) > 1 or tower.open_places():
+        return None
+    lot = tower.lots[0]
+    places = [lot[own] - lot[0] for own in range(sheet[0])]
+    layout = tuple((own.numerator, own.denominator) for own in places)
+    told = eases(sheet, layout)
+    if not keeps(sheet, layout) or any(told[k] < ease for ease, some in ahead for k in some):
+        return None
+    return layout
+
+
+def pair(number):
+    return (number.numerator, number.denominator)
+
+
+def told_at(sheet, ease):
+    """The SHEET with a hard RULE behind the others for each counted one: for the gap at which it has this ease."""
+    more = tuple((i, j, pair(gap_for(scale, ease))) for i, j, scale in sheet[2])
+    return (sheet[0], sheet[1] + more, ())
+
+
+def some_layout(sheet, places):
+    """A LAYOUT of a SHEET no RING of which is without room: these places, each moved on as far as RULES want it."""
+    places = list(places)
+    for _ in range(sheet[0]):
+        for i, j, far in sheet[1]:
+            places[j] = max(places[j], places[i] + Fraction(*far))
+    return tuple(pair(Fraction(own - places[0])) for own in places)
+
+
+def least_level(sheet):
+    """The least level of all RINGS with a counted RULE; None without any."""
+    return min([level(sheet, ring) for ring in counted_rings(sheet)], default=None)
