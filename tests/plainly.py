@@ -294,3 +294,36 @@ def some_layout(sheet, places):
 def least_level(sheet):
     """The least level of all RINGS with a counted RULE; None without any."""
     return min([level(sheet, ring) for ring in counted_rings(sheet)], default=None)
+
+
+def ring_ease(tower, ring):
+    """The ease at which a ROUND with a counted RULE comes to 0."""
+    told = [rule(tower.sheet, mark)[2] for mark in ring if mark[0] == "ease"]
+    some = sorted({Fraction(*ease) for scale in told for _, ease in scale})
+    at = 0
+    while at < len(some) - 2 and tower.comes_to(ring, some[at + 1]) < 0:
+        at += 1
+    low, high = some[at], some[at + 1]
+    base, top = tower.comes_to(ring, low), tower.comes_to(ring, high)
+    return low - base * (high - low) / (top - base)
+
+
+def stage_rows(sheet, most):
+    """Up to so many tuples of pairs of an ease and a ROUND that comes to 0 at it, until no counted RULE is open.
+
+    The ROUNDS are whichever, not those of the least ease: so some of these are TOWERS, and some are not.
+    """
+    found, left = [], [()]
+    while left and len(found) < most:
+        stages = left.pop()
+        tower = Tower(sheet)
+        for told, ring in stages:
+            tower.put(ring, Fraction(*told))
+            tower.put_fast()
+        if not tower.open_places():
+            found.append(stages)
+            continue
+        for ring in tower.rounds():
+            if any(word == "ease" for word, _ in ring):
+                left.append(stages + ((pair(ring_ease(tower, ring)), ring),))
+    return found
