@@ -49,7 +49,7 @@ def marks_of(sheet):
 
 def is_mark(sheet, thing):
     """Whether thing is the mark of a RULE of this SHEET."""
-    if not isinstance(thing, tuple) or len(thing) != 2 or not isinstance(thing[0], str) or thing[0] not in WORDS:
+    if not isinstance(thing, tuple) or len(thing) != 2 or thing[0] not in WORDS:
         return False
     return is_thing_of(len(sheet[1 + WORDS.index(thing[0])]), thing[1])
 

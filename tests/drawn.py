@@ -10,11 +10,12 @@ DEEP_LIST = []
 for _ in range(99):
     DEEP_LIST = [DEEP_LIST]
 ODD_THINGS = (
-    None, True, False, 0, 1, -1, 10 ** 40, "", "hard", "ease", "0/1", [], [0, 1], (0,), (0, 1, 2), (None, None),
+    None, True, False, (), 0, 1, -1, 10 ** 40, "", "hard", "ease", "0/1", [], [0, 1], (0,), (0, 1, 2), (None, None),
     (True, True), (False, 1), (0, True), ("0", "1"), ("hard", 0), ("ease", 0), ("hard", "0"), (("hard", True),),
     (("hard", None),), ("hard", ("hard",)), ((),), ([],), [()], (((),),), ((("hard", 0),),), [["hard", 0]],
     (["hard", 0],), DEEP, DEEP_LIST, ("x" * 1000,) * 50, tuple(range(500)), ((0, 1),) * 300 + (None,),
     (("hard", 10 ** 30),), (("ease", -1),), (("hard", -1), ("hard", 0)), (1, 2, 3, 4, 5, 6, 7), ((0, 0),), ((1, -1),),
+    ("soft", 0), (("soft", 0),), (("ease", 0), ("", 0)), (("hard", 0, 0),), (((), 0),), (([], 0),), ((None, 0),),
 )
 
 

@@ -176,10 +176,13 @@ class Tops(unittest.TestCase):
             eased(sheet, pair(least + Fraction(1, 10 ** 9)))
 
     def test_eight_things_and_twenty_rules(self):
-        for sheet in drawn_round_sheets(95, 40, 8, 19):
-            every = [ring for ring in plainly.counted_rings(sheet)] if sheet[0] < 8 else []
-            if every and not plainly.without_room(sheet):
+        seen = 0
+        for sheet in drawn_round_sheets(95, 25, 8, 19):
+            if sheet[0] > 5 and plainly.counted_rings(sheet):
+                seen += 1
                 self.assertEqual(top_level(sheet), pair(plainly.least_level(sheet)))
+                self.assertIs(is_top_ring(sheet, top_ring(sheet)), True)
+        self.assertGreater(seen, 5)
 
 
 class Most(unittest.TestCase):

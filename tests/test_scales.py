@@ -147,6 +147,10 @@ class Made(unittest.TestCase):
         self.assertIs(are_alike(BENT[:2], BENT), False)
         self.assertIs(are_alike(BENT, BENT[:2]), False)
         self.assertIs(are_alike(scale=BENT[1:], other=BENT), False)
+        # Unlike only where their gaps are far beyond all of their eases.
+        far = (((100, 1), (0, 1)), ((101, 1), (1, 1)), ((102, 1), (3, 1)))
+        self.assertIs(are_alike(far, far[:2]), False)
+        self.assertIs(are_alike(far[:2], far), False)
         scales = drawn_scales(10, 40)
         for scale in scales:
             self.assertIs(are_alike(scale, split(scale)), True)

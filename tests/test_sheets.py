@@ -233,6 +233,9 @@ class Chains(unittest.TestCase):
         self.assertIsNone(hard_gap(FRAME, 0, 1))
         self.assertIs(is_chain(FRAME, 0, 1, (("ease", 0),)), False)
         self.assertIs(is_chain(FRAME, 2, 0, (("hard", 0),)), True)
+        beside = (2, ((0, 1, (0, 1)),), ((0, 1, PLAIN),))
+        self.assertIs(is_chain(beside, 0, 1, (("ease", 0),)), False)
+        self.assertIs(is_chain(beside, 0, 1, (("hard", 0),)), True)
         self.assertEqual((chain(FRAME, 1, 1), hard_gap(FRAME, 1, 1)), ((), (0, 1)))
         for thing in ODD_THINGS:
             self.assertIs(is_chain(FRAME, 2, 0, thing), False)
