@@ -1,9 +1,8 @@
 """LAYOUTS: tuples of the places of the THINGS of a SHEET, that of THING 0 being 0, that keep its hard RULES."""
 
-from likecuts.errors import NoPlace
 from likecuts.fractions import ZERO, is_fraction, least, minus, order, plus, put_in_order, times
 from likecuts.scales import ease_at
-from likecuts.sheets import is_mark, told_by, tupled
+from likecuts.sheets import known_mark, net_of, told_by
 
 
 def gap_in(layout, rule):
@@ -22,10 +21,7 @@ def is_layout(sheet, thing):
 
 def gap_of(sheet, layout, mark):
     """The gap of the RULE with this mark; NoPlace(mark) if there is none."""
-    mark = tupled(mark)
-    if not is_mark(sheet, mark):
-        raise NoPlace(mark)
-    return gap_in(layout, told_by(sheet, mark))
+    return gap_in(layout, told_by(sheet, known_mark(sheet, mark)))
 
 
 def gaps(sheet, layout):
@@ -60,6 +56,15 @@ def least_eased(sheet, layout):
         return ()
     lowest = least(told)
     return tuple([("ease", k) for k, ease in enumerate(told) if ease == lowest])
+
+
+def binding(sheet, layout, ease):
+    """The arcs of the RULES that bind at this ease: tight hard ones, and counted ones of at most this ease; without
+    any counted ones if ease is None."""
+    bound = list(tight(sheet, layout))
+    if ease is not None:
+        bound += [("ease", k) for k, own in enumerate(eases(sheet, layout)) if order(own, ease) <= 0]
+    return [arc for arc in net_of(sheet) if arc[4] in bound]
 
 
 def fairer(sheet, one, other):

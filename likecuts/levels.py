@@ -1,11 +1,11 @@
 """Levels: how much ease all counted RULES can have, and the RINGS that bar more."""
 
-from likecuts.errors import CanNot, NoPlace, Unfit
+from likecuts.errors import CanNot, Unfit
 from likecuts.fractions import ZERO, minus, order
 from likecuts.layouts import eases, is_layout
 from likecuts.nets import climb, comes_to, farthest, least_ring, level_of_ring, marks_in
 from likecuts.scales import ease_at
-from likecuts.sheets import is_ring, is_thing_of, must_be_things, must_have_room, net_of, tupled
+from likecuts.sheets import is_ring, must_be_counted, must_be_things, must_have_room, net_of, tupled
 
 
 def arcs_of(sheet, marks):
@@ -98,8 +98,7 @@ def eased_gap(sheet, ease, i, j):
 
 def most_ease(sheet, ease, k):
     """The greatest ease of counted RULE k in LAYOUTS eased so much; None if there is no greatest one."""
-    if not is_thing_of(len(sheet[2]), k):
-        raise NoPlace(k)
+    must_be_counted(sheet, k)
     must_be_eased(sheet, ease)
     i, j, scale = sheet[2][k]
     back = farthest(net_of(sheet), ease, j).get(i)

@@ -133,32 +133,54 @@ def fast_lots(arcs, heights):
     return mutual_lots(sorted(heights), joints_of(tight_arcs(arcs, ZERO, heights)))
 
 
-def some_way(arcs, start, goal):
-    """The list of the arcs of a way from start to goal that comes to no node twice; None without any."""
-    came, nodes = {start: None}, [start]
+def fewest(arcs, goal):
+    """The dict from each node from which goal can be come to, to the number of arcs of the shortest way there."""
+    many, nodes = {goal: 0}, [goal]
     # Nodes are looked at in the order in which they are found, also those that are found meanwhile.
     place = 0
-    while place < len(nodes) and goal not in came:
+    while place < len(nodes):
         for arc in arcs:
-            if arc[0] == nodes[place] and arc[1] not in came:
-                came[arc[1]] = arc
-                nodes.append(arc[1])
+            if arc[1] == nodes[place] and arc[0] not in many:
+                many[arc[0]] = many[arc[1]] + 1
+                nodes.append(arc[0])
         place = place + 1
-    if goal not in came:
+    return many
+
+
+def least_way(arcs, start, goal):
+    """The list of the arcs of a way from start to goal, of those with the fewest arcs that with the least marks; None
+    without any."""
+    many = fewest(arcs, goal)
+    if start not in many:
         return None
-    way, at = [], goal
-    while came[at] is not None:
-        way.append(came[at])
-        at = came[at][0]
-    way.reverse()
+    way, at = [], start
+    while at != goal:
+        nearer = {arc[4]: arc for arc in arcs if arc[0] == at and many.get(arc[1]) == many[at] - 1}
+        way.append(nearer[min(list(nearer))])
+        at = way[-1][1]
     return way
+
+
+def all_ways(arcs, start, goal, most=None):
+    """The list of the marks of each way from start to goal that comes to no node twice; if there are more than most,
+    of some of them, more than most."""
+    found, left = [], [((start,), ())]
+    while left and (most is None or len(found) <= most):
+        nodes, marks = left.pop()
+        if nodes[-1] == goal:
+            found.append(marks)
+            continue
+        for arc in arcs:
+            if arc[0] == nodes[-1] and arc[1] not in nodes:
+                left.append((nodes + (arc[1],), marks + (arc[4],)))
+    return found
 
 
 def ring_with_scale(arcs):
     """A ring that has an arc with a scale; None without any."""
     for arc in arcs:
         if arc[3] is not None:
-            way = some_way(arcs, arc[1], arc[0])
+            way = least_way(arcs, arc[1], arc[0])
             if way is not None:
                 return [arc] + way
     return None

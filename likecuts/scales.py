@@ -28,23 +28,34 @@ def slope(corner, later):
     return over(minus(later[1], corner[1]), minus(later[0], corner[0]))
 
 
-def along(corners, at):
-    """What the corners tell for at: on the straight line of the two that it lies between, or is nearest to."""
-    place = 1
-    while place < len(corners) - 1 and order(at, corners[place][0]) > 0:
-        place = place + 1
-    low, high = corners[place - 1], corners[place]
+def leg_to(corners, side, at):
+    """The place of the corner at the end of the straight line on which at lies, which is a gap (side 0) or an ease."""
+    low, high = 1, len(corners) - 1
+    while low < high:
+        middle = (low + high) // 2
+        if order(at, corners[middle][side]) > 0:
+            low = middle + 1
+        else:
+            high = middle
+    return low
+
+
+def straight(low, high, at):
+    """What the straight line through two pairs tells for at."""
     return plus(low[1], times(minus(at, low[0]), slope(low, high)))
 
 
 def ease_at(scale, gap):
     """The ease that scale tells for gap."""
-    return along(scale, gap)
+    place = leg_to(scale, 0, gap)
+    return straight(scale[place - 1], scale[place], gap)
 
 
 def gap_at(scale, ease):
     """The gap for which scale tells ease."""
-    return along([(own, gap) for gap, own in scale], ease)
+    place = leg_to(scale, 1, ease)
+    (low, base), (high, top) = scale[place - 1], scale[place]
+    return straight((base, low), (top, high), ease)
 
 
 def plain_scale(share):
@@ -61,13 +72,9 @@ def shifted(scale, by):
 
 def rate_at(scale, gap):
     """The pair of how much ease grows for each 1 of gap just below gap, and just above it."""
-    last = len(scale) - 1
-    below = 1
-    while below < last and order(gap, scale[below][0]) > 0:
-        below = below + 1
-    above = below
-    while above < last and order(gap, scale[above][0]) >= 0:
-        above = above + 1
+    below = leg_to(scale, 0, gap)
+    is_turn = below < len(scale) - 1 and order(gap, scale[below][0]) == 0
+    above = below + 1 if is_turn else below
     return slope(scale[below - 1], scale[below]), slope(scale[above - 1], scale[above])
 
 
@@ -91,17 +98,29 @@ def bends(corners, at):
     return slope(corners[at - 1], corners[at]) != slope(corners[at], corners[at + 1])
 
 
-def added_up(scales):
-    """The list of the corners (gap, ease) at the eases of all corners: the gaps of all scales there, added up."""
-    eases = ascending([corner[1] for scale in scales for corner in scale])
-    return [(total([gap_at(scale, ease) for scale in scales]), ease) for ease in eases]
+def corner_eases(scales):
+    """The list of the eases of all corners, from the least to the greatest."""
+    return ascending([corner[1] for scale in scales for corner in scale])
+
+
+def added_up(scales, ease):
+    """The corner (gap, ease) at this ease: the gaps of all scales there, added up."""
+    return total([gap_at(scale, ease) for scale in scales]), ease
 
 
 def level_of(scales, far):
     """The ease at which the gaps of all scales and far come to 0 in all."""
-    return along(added_up(scales), minus(ZERO, far))
+    eases, goal = corner_eases(scales), minus(ZERO, far)
+    low, high = 1, len(eases) - 1
+    while low < high:
+        middle = (low + high) // 2
+        if order(goal, added_up(scales, eases[middle])[0]) > 0:
+            low = middle + 1
+        else:
+            high = middle
+    return straight(added_up(scales, eases[low - 1]), added_up(scales, eases[low]), goal)
 
 
 def together(scales):
     """The SCALE that tells for each gap the ease at which the gaps of all scales come to this gap."""
-    return trimmed(added_up(scales))
+    return trimmed([added_up(scales, ease) for ease in corner_eases(scales)])

@@ -2,7 +2,8 @@
 
 from likecuts.errors import Afloat, CanNot, Loose, NoPlace, NoRoom, TooMuch
 from likecuts.fractions import ZERO, is_fraction, is_number, minus, order, plus, total
-from likecuts.nets import climb, farthest, fast_lots, is_closed, joints_of, marks_in, mutual_lots, reached, turned_round
+from likecuts.nets import (all_ways, climb, farthest, fast_lots, is_closed, joints_of, least_way, marks_in, mutual_lots,
+                           reached, turned_round)
 from likecuts.scales import is_scale
 
 WORDS = ("hard", "ease")
@@ -59,12 +60,17 @@ def told_by(sheet, mark):
     return sheet[1 + WORDS.index(mark[0])][mark[1]]
 
 
-def rule_of(sheet, mark):
-    """The RULE with this mark; NoPlace(mark) if there is none."""
+def known_mark(sheet, mark):
+    """The mark, made a tuple; NoPlace(mark) if there is no RULE with it."""
     mark = tupled(mark)
     if not is_mark(sheet, mark):
         raise NoPlace(mark)
-    return tupled(told_by(sheet, mark))
+    return mark
+
+
+def rule_of(sheet, mark):
+    """The RULE with this mark; NoPlace(mark) if there is none."""
+    return tupled(told_by(sheet, known_mark(sheet, mark)))
 
 
 def hard_net(sheet):
@@ -95,26 +101,13 @@ def is_ring(sheet, thing):
 def rings(sheet):
     """The ascending list of the RINGS that begin with their least mark; TooMuch() if there are more than 2,000."""
     found = []
-    for first in marks_of(sheet):
+    for i, j, _, _, first in net_of(sheet):
         # Each RING is found but once if it is looked for from its least mark on.
-        rules = [(told_by(sheet, mark), mark) for mark in marks_of(sheet) if mark > first]
-        add_rings(rules, told_by(sheet, first), first, found)
+        behind = [arc for arc in net_of(sheet) if arc[4] > first]
+        found = found + [(first,) + way for way in all_ways(behind, j, i, MOST_RINGS)]
+        if len(found) > MOST_RINGS:
+            raise TooMuch()
     return sorted(found)
-
-
-def add_rings(rules, rule, first, found):
-    """Adds to found the RINGS of a first RULE and of these, pairs (rule, mark)."""
-    ways = [([rule[0]], rule[1], (first,))]
-    while ways:
-        things, end, marks = ways.pop()
-        if end == things[0]:
-            found.append(marks)
-            if len(found) > MOST_RINGS:
-                raise TooMuch()
-            continue
-        for (i, j, _), mark in rules:
-            if i == end and j not in things[1:]:
-                ways.append((things + [end], j, marks + (mark,)))
 
 
 def ring_far(sheet, ring):
@@ -155,13 +148,26 @@ def is_lot(many, thing):
     return all(thing[at - 1] < thing[at] for at in range(1, len(thing)))
 
 
+def is_cut(many, thing):
+    """Whether thing is a CUT of so many THINGS."""
+    return is_lot(many, thing) and 0 < len(thing) < many
+
+
+def does_leave(rule, cut):
+    """Whether a RULE, or an arc, leaves a CUT."""
+    return rule[0] in cut and rule[1] not in cut
+
+
+def does_enter(rule, cut):
+    """Whether a RULE, or an arc, enters a CUT."""
+    return rule[0] not in cut and rule[1] in cut
+
+
 def is_loose_lot(sheet, thing):
     """Whether thing is a CUT that some counted RULE enters and no RULE leaves."""
-    if not is_lot(sheet[0], thing):
+    if not is_cut(sheet[0], thing) or any(does_leave(arc, thing) for arc in net_of(sheet)):
         return False
-    if any(i in thing and j not in thing for i, j in joints_of(net_of(sheet))):
-        return False
-    return any(i not in thing and j in thing for i, j in joints_of(counted_net(sheet)))
+    return any(does_enter(rule, thing) for rule in sheet[2])
 
 
 def must_be_things(sheet, numbers):
@@ -169,6 +175,12 @@ def must_be_things(sheet, numbers):
     for number in numbers:
         if not is_thing_of(sheet[0], number):
             raise NoPlace(number)
+
+
+def must_be_counted(sheet, k):
+    """Raises NoPlace(k) if k is not the number of a counted RULE."""
+    if not is_thing_of(len(sheet[2]), k):
+        raise NoPlace(k)
 
 
 def must_have_room(sheet):
@@ -194,35 +206,22 @@ def chain(sheet, i, j):
         raise CanNot()
     # Only RULES that lose nothing of the greatest sum to j stand in a CHAIN.
     arcs = [arc for arc in hard_net(sheet) if arc[1] in gaps and gaps[arc[0]] == plus(arc[2], gaps[arc[1]])]
-    many = fewest(arcs, j)
-    marks, at = [], i
-    while at != j:
-        arc = [own for own in arcs if own[0] == at and many[own[1]] == many[at] - 1][0]
-        marks.append(arc[4])
-        at = arc[1]
-    return tuple(marks)
+    return marks_in(least_way(arcs, i, j))
 
 
-def fewest(arcs, goal):
-    """The dict from each node from which goal can be come to, to the number of arcs of the shortest way there."""
-    many, nodes = {goal: 0}, [goal]
-    place = 0
-    while place < len(nodes):
-        for arc in arcs:
-            if arc[1] == nodes[place] and arc[0] not in many:
-                many[arc[0]] = many[arc[1]] + 1
-                nodes.append(arc[0])
-        place = place + 1
-    return many
-
-
-def is_way(sheet, i, j, thing):
-    """Whether thing is a way from i to j."""
-    if not are_marks(sheet, thing) or not are_hard(thing):
+def is_path(sheet, i, j, thing):
+    """Whether thing is a tuple of marks of RULES that lead from i to j, each on from the one ahead, and come to no
+    THING twice."""
+    if not are_marks(sheet, thing):
         return False
     rules = [told_by(sheet, mark) for mark in thing]
     things = [i] + [rule[1] for rule in rules]
     return [rule[0] for rule in rules] == things[:-1] and things[-1] == j and len(set(things)) == len(things)
+
+
+def is_way(sheet, i, j, thing):
+    """Whether thing is a way from i to j."""
+    return is_path(sheet, i, j, thing) and are_hard(thing)
 
 
 def is_chain(sheet, i, j, thing):

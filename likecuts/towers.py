@@ -90,9 +90,16 @@ def built(sheet):
     return tuple(stages), tuple(lots.leads)
 
 
+def laid_out(sheet):
+    """The pair of sheet, made of tuples, and of its fairest LAYOUT; NoRoom(ring), Loose(lot), Afloat(lot) if it does
+    not stand."""
+    sheet = standing(sheet)
+    return sheet, built(sheet)[1]
+
+
 def fairest(sheet):
     """The fairest LAYOUT."""
-    return built(standing(sheet))[1]
+    return laid_out(sheet)[1]
 
 
 def tower(sheet):

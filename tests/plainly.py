@@ -327,3 +327,91 @@ def stage_rows(sheet, most):
             if any(word == "ease" for word, _ in ring):
                 left.append(stages + ((pair(ring_ease(tower, ring)), ring),))
     return found
+
+
+def ways_by(sheet, some, i, j):
+    """All tuples of these marks that lead from i to j, each on from the one ahead, and come to no THING twice."""
+    found, left = [], [((i,), ())]
+    while left:
+        things, way = left.pop()
+        if things[-1] == j:
+            found.append(way)
+            continue
+        left += [(things + (rule(sheet, mark)[1],), way + (mark,)) for mark in some
+                 if rule(sheet, mark)[0] == things[-1] and rule(sheet, mark)[1] not in things]
+    return found
+
+
+def binding(sheet, layout, ease):
+    """The marks of the tight hard RULES, and of the counted ones of at most this ease (of none if it is None)."""
+    told = eases(sheet, layout)
+    return [("hard", k) for k, own in enumerate(sheet[1]) if is_tight(layout, own)] + [
+        ("ease", k) for k in range(len(told)) if ease is not None and told[k] <= ease]
+
+
+def reasons_for(sheet, layout, k):
+    """All REASONS of k in layout that begin with its mark: RINGS, looked through one by one."""
+    bound = binding(sheet, layout, eases(sheet, layout)[k])
+    rings = [ring for ring in all_rings(sheet) if ("ease", k) in ring and all(mark in bound for mark in ring)]
+    return sorted(ring[ring.index(("ease", k)):] + ring[:ring.index(("ease", k))] for ring in rings)
+
+
+def bars_of(sheet, layout, k):
+    """All BARS of k in layout."""
+    told = eases(sheet, layout)
+    return [cut for cut in all_cuts(sheet) if enters(sheet[2][k], cut)
+            and not any(leaves(own, cut) and is_tight(layout, own) for own in sheet[1])
+            and all(told[at] > told[k] for at, own in enumerate(sheet[2]) if leaves(own, cut))]
+
+
+def moved(layout, cut, far):
+    """The places with this CUT moved on by far, told from THING 0 again."""
+    places = [Fraction(*own) + (far if k in cut else 0) for k, own in enumerate(layout)]
+    return tuple(pair(own - places[0]) for own in places)
+
+
+def step_least(sheet, layout, cut, far):
+    """The least ease of the counted RULES that leave or enter a CUT, when it is moved on by far."""
+    told = eases(sheet, moved(layout, cut, far))
+    return min(told[k] for k, own in enumerate(sheet[2]) if leaves(own, cut) or enters(own, cut))
+
+
+def best_steps(sheet, layout, cut):
+    """All FRACTIONS from 0 on by which a CUT that is not like can be moved on such that hard RULES are kept and the
+    least ease of the counted RULES that leave or enter it is greatest; [] if it is the greater the farther.
+
+    Looked for where two eases are even or a hard RULE is tight: between the corners eases go straight on.
+    """
+    across = [own for own in sheet[2] if leaves(own, cut) or enters(own, cut)]
+    room = [gap(layout, own) - Fraction(*own[2]) for own in sheet[1] if leaves(own, cut)]
+    turns = {Fraction(0)}
+    for own in across:
+        for corner, _ in own[2]:
+            far = (Fraction(*corner) - gap(layout, own)) * (1 if enters(own, cut) else -1)
+            turns.add(far)
+    turns = sorted(far for far in turns if far >= 0)
+    turns.append(turns[-1] + 1)
+    some = set(turns[:-1]) | set(room)
+    for low, high in zip(turns, turns[1:]):
+        for one in across:
+            for other in across:
+                ends = [ease_for(own[2], gap(moved(layout, cut, far), own)) for far in (low, high)
+                        for own in (one, other)]
+                grows = (ends[2] - ends[0]) - (ends[3] - ends[1])
+                if grows:
+                    some.add(low - (ends[0] - ends[1]) * (high - low) / grows)
+    some = [far for far in some if far >= 0 and all(far <= own for own in room)]
+    if not any(leaves(own, cut) for own in sheet[1] + sheet[2]):
+        return []
+    best = max(step_least(sheet, layout, cut, far) for far in some)
+    return [far for far in some if step_least(sheet, layout, cut, far) == best]
+
+
+def lots_of(sheet, some):
+    """The list of the sets of THINGS that can come to each other by these marks."""
+    lots, things = [], range(sheet[0])
+    for thing in things:
+        if not any(thing in lot for lot in lots):
+            lots.append(tuple(own for own in things if ways_by(sheet, some, thing, own)
+                              and ways_by(sheet, some, own, thing)))
+    return lots

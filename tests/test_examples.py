@@ -3,10 +3,10 @@
 import os
 import unittest
 
-from likecuts import errors, fractions, layouts, levels, scales, sheets, towers
+from likecuts import cuts, errors, fractions, layouts, levels, lots, reasons, scales, sheets, towers
 
-MODULES = (errors, fractions, scales, sheets, layouts, levels, towers)
-MANY = {4: 5, 5: 5, 6: 7, 7: 4, 8: 7, 9: 7}
+MODULES = (errors, fractions, scales, sheets, layouts, levels, towers, cuts, reasons, lots)
+MANY = {4: 5, 5: 5, 6: 7, 7: 4, 8: 7, 9: 7, 10: 7, 11: 6, 12: 5}
 
 
 def read_examples():
