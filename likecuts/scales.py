@@ -70,11 +70,16 @@ def shifted(scale, by):
     return tuple([(plus(gap, by), tuple(ease)) for gap, ease in scale])
 
 
+def leg_on(scale, gap):
+    """The place of the corner at the end of the straight line on which ease goes on just above gap."""
+    place = leg_to(scale, 0, gap)
+    is_turn = place < len(scale) - 1 and order(gap, scale[place][0]) == 0
+    return place + 1 if is_turn else place
+
+
 def rate_at(scale, gap):
     """The pair of how much ease grows for each 1 of gap just below gap, and just above it."""
-    below = leg_to(scale, 0, gap)
-    is_turn = below < len(scale) - 1 and order(gap, scale[below][0]) == 0
-    above = below + 1 if is_turn else below
+    below, above = leg_to(scale, 0, gap), leg_on(scale, gap)
     return slope(scale[below - 1], scale[below]), slope(scale[above - 1], scale[above])
 
 

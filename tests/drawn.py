@@ -134,3 +134,12 @@ def drawn_sheets(seed, many, most=5, rules=7):
 def drawn_places(row, many):
     """The next places for so many THINGS, as Python's own fractions."""
     return [Fraction(row.between(-9, 9), row.one_of((1, 1, 2, 3))) for _ in range(many)]
+
+
+def stairs(many):
+    """A SCALE of so many corners, its lines steep and flat in turn."""
+    rows, gap, ease = [], 0, 0
+    for at in range(many):
+        rows.append(((gap, 1), (ease, 1)))
+        gap, ease = gap + 1 + at % 2, ease + 2 - at % 2
+    return tuple(rows)

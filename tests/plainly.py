@@ -415,3 +415,94 @@ def lots_of(sheet, some):
             lots.append(tuple(own for own in things if ways_by(sheet, some, thing, own)
                               and ways_by(sheet, some, own, thing)))
     return lots
+
+
+def told_more(sheet, mark, far):
+    """The SHEET with the RULE of this mark told by far more."""
+    def more(told):
+        if mark[0] == "hard":
+            return pair(Fraction(*told) + far)
+        return tuple((pair(Fraction(*own) + far), ease) for own, ease in told)
+    side = 1 if mark[0] == "hard" else 2
+    rules = [(i, j, more(told)) if k == mark[1] else (i, j, told) for k, (i, j, told) in enumerate(sheet[side])]
+    return (sheet[0], tuple(rules), sheet[2]) if side == 1 else (sheet[0], sheet[1], tuple(rules))
+
+
+def is_fairest(sheet, layout):
+    """Whether layout is the fairest one of a SHEET that stands: by all CUTS."""
+    return keeps(sheet, layout) and all(like(sheet, layout, cut) for cut in all_cuts(sheet))
+
+
+def at_width(sheet, place, width):
+    """The SHEET with its hard RULE of this place told by this width, a Fraction."""
+    hard = tuple((i, j, pair(-width)) if k == place else (i, j, far) for k, (i, j, far) in enumerate(sheet[1]))
+    return (sheet[0], hard, sheet[2])
+
+
+def without(sheet, mark):
+    """The SHEET without the RULE of this mark."""
+    rules = [tuple(own for k, own in enumerate(some) if (word, k) != tuple(mark))
+             for word, some in zip(("hard", "ease"), sheet[1:])]
+    return (sheet[0], rules[0], rules[1])
+
+
+def is_free(sheet, place):
+    """Whether sheet is free of its hard RULE of this place."""
+    rest = without(sheet, ("hard", place))
+    on_rings = {mark for ring in counted_rings(sheet) for mark in ring}
+    return (not without_room(rest) and len(hung(rest)) == 1
+            and all(("ease", k) in on_rings for k in range(len(sheet[2]))))
+
+
+def least_width(sheet, place):
+    """The greatest sum of far of the ways from the j of this hard RULE to its i; None without any."""
+    i, j, _ = sheet[1][place]
+    return max([hard_sum(sheet, way) for way in all_ways(sheet, j, i)], default=None)
+
+
+def places_by(lines, width):
+    """The places that lines tell for a width, a Fraction."""
+    return tuple(pair(Fraction(*own) + Fraction(*slope) * width) for own, slope in lines)
+
+
+def turns_of(sheet, lines):
+    """All widths at which some ease may bend, by these lines."""
+    found = set()
+    for i, j, scale in sheet[2]:
+        own, slope = [Fraction(*lines[j][at]) - Fraction(*lines[i][at]) for at in (0, 1)]
+        if slope:
+            found.update((Fraction(*corner) - own) / slope for corner, _ in scale)
+    return sorted(found)
+
+
+def stretch_holds(sheet, place, stretch):
+    """Whether a STRETCH holds: at its ends, at each turn between them, and farther on where there is no end."""
+    first, last, lines, rings = stretch
+    low, high = [None if end is None else Fraction(*end) for end in (first, last)]
+    turns = turns_of(sheet, lines) + [own for own in (low, high) if own is not None]
+    turns = sorted(turns or [Fraction(0)])
+    if low is None:
+        turns = [turns[0] - 2, turns[0] - 1] + turns
+    if high is None:
+        turns += [turns[-1] + 1, turns[-1] + 2]
+    some = [own for own in turns if (low is None or own >= low) and (high is None or own <= high)]
+    rows = [heights(sheet, place, lines, rings, own) for own in some]
+    if any(number < 0 for row in rows for number in row[0]) or any(number for row in rows for number in row[1]):
+        return False
+    if low is None and any(far < near for far, near in zip(rows[0][0], rows[1][0])):
+        return False
+    return high is not None or all(far >= near for far, near in zip(rows[-1][0], rows[-2][0]))
+
+
+def heights(sheet, place, lines, rings, width):
+    """What may not be below 0 at this width, and what must be 0, if a STRETCH holds."""
+    told, layout = at_width(sheet, place, width), places_by(lines, width)
+    above = [gap(layout, own) - Fraction(*own[2]) for own in told[1]]
+    eased = eases(told, layout)
+    just = [above[k] for ring in rings for word, k in ring if word == "hard"] + [Fraction(*layout[0])]
+    return above + [eased[k] - eased[at] for k, ring in enumerate(rings) for word, at in ring if word == "ease"], just
+
+
+def ways_of_all(sheet, i, j):
+    """All ways from i to j by RULES of both kinds."""
+    return ways_by(sheet, marks(sheet), i, j)

@@ -6,15 +6,28 @@ from fractions import Fraction
 import plainly
 from drawn import PLAIN, Row, drawn_places, drawn_round_sheets, drawn_sheets, pair
 
+from likecuts.apart import alike_widths, first_apart
 from likecuts.cuts import all_like, best_step, is_like, moved_on, unlike_cuts
-from likecuts.fractions import minus
+from likecuts.edits import edited, moves, spread
+from likecuts.fractions import minus, order
 from likecuts.layouts import ease_row, eases, fairer, is_layout
 from likecuts.levels import top_level
 from likecuts.lots import lots_at, tie
+from likecuts.rates import is_bend, rates_back, rates_on, reach_back, reach_on
 from likecuts.reasons import reasons_many, unreasoned
 from likecuts.scales import shifted, trimmed
 from likecuts.sheets import chain, hard_gap, hung_lots, spans, stands
 from likecuts.towers import fairest, first_lots, levels_of
+from likecuts.widths import bends, is_free, is_table, laid_at, least_width, lines_of, sheet_at, table
+
+
+def turned_about(row, sheet, mark):
+    """The SHEET with its RULES of each word in another order, and the mark of this RULE there."""
+    rules, orders = [], {}
+    for word, some in zip(("hard", "ease"), sheet[1:]):
+        orders[word] = shuffled(row, range(len(some)))
+        rules.append(tuple(some[k] for k in orders[word]))
+    return (sheet[0], rules[0], rules[1]), (mark[0], orders[mark[0]].index(mark[1]))
 
 
 def standing_sheets(seed, many=70):
@@ -145,7 +158,74 @@ class Told(unittest.TestCase):
     def test_an_example(self):
         frame = (3, ((2, 0, (-4, 1)),), ((0, 1, PLAIN), (1, 2, PLAIN)))
         self.assertEqual(fairest((3, frame[1] * 3, frame[2] * 3)), fairest(frame))
-        self.assertEqual(fairest((3, frame[1] + ((2, 0, (-7, 1)), (1, 1 - 1, (-4, 1))), frame[2])), fairest(frame))
+        self.assertEqual(fairest((3, frame[1] + ((2, 0, (-7, 1)), (1, 0, (-4, 1))), frame[2])), fairest(frame))
+
+
+class Moved(unittest.TestCase):
+    """Rates, widths and EDITS tell of the same LAYOUTS."""
+
+    def test_a_rule_told_by_more_is_a_width_less(self):
+        row, seen = Row(281), 0
+        for sheet in standing_sheets(282):
+            for place in range(len(sheet[1])):
+                if not is_free(sheet, place):
+                    continue
+                far = row.fraction()
+                width = minus((0, 1), sheet[1][place][2])
+                self.assertEqual(sheet_at(sheet, place, width), sheet)
+                edit = ("more", ("hard", place), far)
+                self.assertEqual(edited(sheet, edit), sheet_at(sheet, place, minus(width, far)))
+                low = least_width(sheet, place)
+                if low is not None and order(minus(width, far), low) < 0:
+                    continue
+                seen += 1
+                self.assertEqual(laid_at(sheet, place, width), fairest(sheet))
+                told = [minus(new, old) for old, new in zip(fairest(sheet), laid_at(sheet, place, minus(width, far)))]
+                self.assertEqual(moves(sheet, edit), tuple(told))
+                self.assertLessEqual(Fraction(*spread(sheet, edit)), abs(Fraction(*far)))
+        self.assertGreater(seen, 60)
+
+    def test_rates_are_slopes_of_lines(self):
+        seen = set()
+        for sheet in standing_sheets(284, 40):
+            for place in range(len(sheet[1])):
+                if not is_free(sheet, place):
+                    continue
+                width, mark = minus((0, 1), sheet[1][place][2]), ("hard", place)
+                rows = [row for row in lines_of(sheet, place) if self.has(row, width)]
+                seen.add(len(rows))
+                # Back is wider: the last row that has the width goes on from there; on is less wide.
+                back = tuple(line[1] for line in rows[-1][2])
+                self.assertEqual(tuple(minus((0, 1), rate) for rate in rates_back(sheet, mark)), back)
+                end = rows[-1][1]
+                self.assertEqual(reach_back(sheet, mark), None if end is None else minus(end, width))
+                if rows[0][0] != width:
+                    on = tuple(minus((0, 1), line[1]) for line in rows[0][2])
+                    self.assertEqual(rates_on(sheet, mark), on)
+                    first = rows[0][0]
+                    self.assertEqual(reach_on(sheet, mark), None if first is None else minus(width, first))
+                self.assertIs(is_bend(sheet, mark), width in bends(sheet, place))
+        self.assertEqual(seen, {1, 2})
+
+    def has(self, row, width):
+        return (row[0] is None or order(row[0], width) <= 0) and (row[1] is None or order(width, row[1]) <= 0)
+
+    def test_told_in_another_way(self):
+        row = Row(286)
+        for sheet in standing_sheets(287, 30):
+            for place in range(len(sheet[1])):
+                other, mark = turned_about(row, sheet, ("hard", place))
+                twice = (sheet[0], sheet[1], sheet[2] + sheet[2])
+                self.assertIs(is_free(other, mark[1]), is_free(sheet, place))
+                if is_free(sheet, place):
+                    self.assertEqual(lines_of(other, mark[1]), lines_of(sheet, place))
+                    self.assertIs(alike_widths(sheet, place, other, mark[1]), True)
+                    self.assertIs(first_apart(twice, place, other, mark[1]), None)
+                    self.assertIs(is_table(sheet, place, table(sheet, place)), True)
+            for k in range(len(sheet[2])):
+                other, mark = turned_about(row, sheet, ("ease", k))
+                self.assertEqual(rates_on(other, mark), rates_on(sheet, ("ease", k)))
+                self.assertEqual(reach_back(other, mark), reach_back(sheet, ("ease", k)))
 
 
 if __name__ == "__main__":

@@ -3,10 +3,12 @@
 import os
 import unittest
 
-from likecuts import cuts, errors, fractions, layouts, levels, lots, reasons, scales, sheets, towers
+from likecuts import (apart, cuts, edits, errors, fractions, layouts, levels, lots, rates, reasons, scales, sheets,
+                      towers, widths)
 
-MODULES = (errors, fractions, scales, sheets, layouts, levels, towers, cuts, reasons, lots)
-MANY = {4: 5, 5: 5, 6: 7, 7: 4, 8: 7, 9: 7, 10: 7, 11: 6, 12: 5}
+MODULES = (errors, fractions, scales, sheets, layouts, levels, towers, cuts, reasons, lots, edits,
+           rates, widths, apart)
+MANY = {4: 5, 5: 5, 6: 7, 7: 4, 8: 7, 9: 7, 10: 7, 11: 6, 12: 5, 13: 5, 14: 7, 15: 7, 16: 6}
 
 
 def read_examples():
