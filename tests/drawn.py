@@ -143,3 +143,27 @@ def stairs(many):
         rows.append(((gap, 1), (ease, 1)))
         gap, ease = gap + 1 + at % 2, ease + 2 - at % 2
     return tuple(rows)
+
+
+def big_sheet(row):
+    """The next SHEET of 8 THINGS and 20 RULES with SCALES of four corners, as great and as fine as the bounds allow."""
+    around, left = [], list(range(8))
+    while left:
+        around.append(left.pop(row.below(len(left))))
+    hard, counted = [(around[-1], around[0], (-1000, 1))], []
+    for i, j in zip(around, around[1:]):
+        counted.append((i, j, big_scale(row)))
+    while len(hard) + len(counted) < 20:
+        i = row.below(8)
+        j = (i + 1 + row.below(7)) % 8
+        if row.below(4) == 0:
+            hard.append((i, j, pair(Fraction(row.between(-1000, 400), row.between(1, 12)))))
+        else:
+            counted.append((i, j, big_scale(row)))
+    return (8, tuple(hard), tuple(counted))
+
+
+def big_scale(row):
+    """The next SCALE of four corners, far from one another."""
+    return tuple((pair(Fraction(low + row.between(1, 400), 3)), pair(Fraction(low + row.between(1, 400), 12)))
+                 for low in (-1000, -500, 0, 500))

@@ -1,16 +1,19 @@
 """[2], [3], [16]: widths that are apart, widths of an ease, against the fairest LAYOUTS at many single widths."""
 
+import time
 import unittest
 from fractions import Fraction
 from functools import lru_cache
 
 import plainly
-from drawn import ODD_THINGS, PLAIN, Row, drawn_round_sheets, listed, pair, stairs
+from drawn import ODD_THINGS, PLAIN, Row, big_sheet, drawn_round_sheets, listed, pair, stairs
 
 from likecuts.apart import alike_widths, first_apart, is_apart_width, width_for, widths_of_ease
-from likecuts.errors import CanNot, NoPlace, TooMuch, Unfit
+from likecuts.edits import movers, moves
+from likecuts.errors import Afloat, CanNot, Loose, NoPlace, NoRoom, TooMuch, Unfit
+from likecuts.rates import is_bend, reach_back, reach_on
 from likecuts.towers import fairest
-from likecuts.widths import lines_of
+from likecuts.widths import is_free, lines_of
 
 FRAME = (3, ((2, 0, (-4, 1)),), ((0, 1, PLAIN), (1, 2, PLAIN)))
 NEAR = (3, FRAME[1] + ((0, 1, (3, 1)),), FRAME[2])
@@ -241,6 +244,28 @@ class OfEase(unittest.TestCase):
         self.assertEqual((width_for(fast, 2, (99, 1)), lines_of(fast, 2)[0][0]), ((2, 1), (2, 1)))
 
 
+class Big(unittest.TestCase):
+    def test_each_call_comes_to_an_end_in_seconds(self):
+        row, done = Row(381), 0
+        while done < 4:
+            sheet, other = big_sheet(row), big_sheet(row)
+            if not is_free(sheet, 0) or not is_free(other, 0):
+                continue
+            done += 1
+            calls = [lambda: alike_widths(sheet, 0, other, 0), lambda: first_apart(sheet, 0, sheet, 0),
+                     lambda: is_apart_width(sheet, 0, other, 0, (500, 1)), lambda: width_for(sheet, 0, (-999, 1)),
+                     lambda: widths_of_ease(sheet, 0, 0, (0, 1)), lambda: moves(sheet, ("more", ("hard", 0), (-9, 7))),
+                     lambda: is_bend(sheet, ("ease", 1)), lambda: reach_back(sheet, ("hard", 0)),
+                     lambda: reach_on(sheet, ("ease", 0)), lambda: movers(sheet, ("out", ("ease", 12)))]
+            for call in calls:
+                start = time.monotonic()
+                try:
+                    call()
+                except (NoRoom, Loose, Afloat, CanNot):
+                    pass
+                self.assertLess(time.monotonic() - start, 20)
+
+
 class Errors(unittest.TestCase):
     def pairs(self, sheet, place, other, spot):
         return [lambda: alike_widths(sheet, place, other, spot), lambda: first_apart(sheet, place, other, spot),
@@ -254,8 +279,9 @@ class Errors(unittest.TestCase):
 
     def test_no_place_then_unfit(self):
         two = (2, ((1, 0, (-4, 1)),), ((0, 1, PLAIN),))
-        for sheet, place, other, spot, number in ((FRAME, 1, NEAR, 9, 1), (PINNED, 2, two, -1, 2), (PINNED, 0, two, 1, 1),
-                                                  (FRAME, 0, PINNED, -1, -1), (PINNED, -3, FRAME, 0, -3)):
+        rows = ((FRAME, 1, NEAR, 9, 1), (PINNED, 2, two, -1, 2), (PINNED, 0, two, 1, 1), (FRAME, 0, PINNED, -1, -1),
+                (PINNED, -3, FRAME, 0, -3))
+        for sheet, place, other, spot, number in rows:
             for call in self.pairs(sheet, place, other, spot):
                 self.raised(call, NoPlace, place=number)
         for sheet, place, other, spot in ((PINNED, 0, FRAME, 0), (FRAME, 0, PINNED, 1), (PINNED, 1, two, 0),

@@ -207,8 +207,8 @@ class Alone(unittest.TestCase):
 
 class Errors(unittest.TestCase):
     def calls(self, sheet, i, j):
-        return [lambda: tie(sheet, i, j), lambda: tied_by(sheet, i, j, (1, 1)), lambda: parting_cut(sheet, i, j, (1, 1)),
-                lambda: is_tied_by(sheet, i, j, (1, 1), None), lambda: is_parting_cut(sheet, i, j, (1, 1), None)]
+        return [lambda: tie(sheet, i, j), lambda: tied_by(sheet, i, j, (1, 1)),
+                lambda: parting_cut(sheet, i, j, (1, 1)), lambda: is_tied_by(sheet, i, j, (1, 1), None), lambda: is_parting_cut(sheet, i, j, (1, 1), None)]
 
     def test_what_does_not_stand_first_of_all(self):
         for sheet, kind in ((LOOSE, Loose), (FLOATING, Afloat), (SHUT, NoRoom)):

@@ -8,6 +8,7 @@ from drawn import PLAIN, drawn_round_sheets, drawn_sheets, listed, pair
 
 from likecuts.errors import Afloat, CanNot, Loose, NoPlace, NoRoom
 from likecuts.rates import (ease_rates_back, ease_rates_on, is_bend, rates_back, rates_on, reach_back, reach_on)
+from likecuts.reasons import reasons
 from likecuts.towers import fairest
 
 FRAME = (3, ((2, 0, (-4, 1)),), ((0, 1, PLAIN), (1, 2, PLAIN)))
@@ -106,6 +107,20 @@ class Edges(unittest.TestCase):
         self.assertEqual((rates_on(stiff, ("hard", 0)), reach_on(stiff, ("hard", 0))), (((0, 1), (0, 1)), (3, 1)))
         self.assertIsNone(reach_back(stiff, ("hard", 0)))
         self.assertIsNone(reach_back(stiff, ("hard", 1)))
+
+    def test_as_far_as_it_stands_by_another_reason(self):
+        # RULE 1 stands behind RULE 0 until it has more ease than that, with the frame at 4, and RULE 3 from there on;
+        # then but 1 / 100 is left.
+        quick = (((2, 1), (2, 1)), ((5, 1), (3, 1)))
+        low = (((0, 1), (-99, 1)), ((1, 1), (-98, 1)))
+        sheet = (3, ((2, 0, (-10, 1)), (0, 2, (399, 100))), ((0, 1, PLAIN), (1, 2, quick), (0, 1, low), (1, 2, low)))
+        self.assertEqual(reasons(sheet)[0], (("ease", 0), ("ease", 1), ("hard", 0)))
+        self.assertEqual(rates_on(sheet, ("hard", 0)), ((0, 1), (-1, 2), (-1, 1)))
+        self.assertEqual(reach_on(sheet, ("hard", 0)), (601, 100))
+        # Less than that is left at once.
+        near = (3, ((2, 0, (-4, 1)),) + sheet[1][1:], sheet[2])
+        self.assertEqual(reach_on(near, ("hard", 0)), (1, 100))
+        self.assertEqual(rates_on(near, ("hard", 0)), ((0, 1), (-1, 2), (-1, 1)))
 
     def test_does_not_go(self):
         for mark in (("hard", 0), ("hard", 1)):

@@ -5,7 +5,7 @@ import unittest
 from fractions import Fraction
 
 import plainly
-from drawn import ODD_THINGS, PLAIN, Row, drawn_round_sheets, drawn_sheets, listed, pair, stairs
+from drawn import ODD_THINGS, PLAIN, Row, big_sheet, drawn_round_sheets, drawn_sheets, listed, pair, stairs
 
 from likecuts.errors import CanNot, NoPlace, TooMuch, Unfit
 from likecuts.rates import rates_back, rates_on
@@ -260,13 +260,28 @@ class Tables(unittest.TestCase):
         self.assertIs(is_table(sheet, 0, cut), False)
         self.assertIs(is_table(FRAME, 0, cut), True)
 
+    def test_a_stretch_that_is_even_at_one_width(self):
+        # RULE 1 has less ease than RULE 0, but at 4, just at a corner, as much; 2 and 3 hold all half way.
+        bent = (((-1, 1), (-2, 1)), ((0, 1), (-1, 1)), ((2, 1), (2, 1)), ((4, 1), (3, 1)), ((5, 1), (4, 1)))
+        low = (((0, 1), (-99, 1)), ((1, 1), (-98, 1)))
+        sheet = (3, FRAME[1], ((0, 1, PLAIN), (1, 2, bent), (0, 1, low), (1, 2, low)))
+        lowest, others = (("ease", 2), ("ease", 3), ("hard", 0)), (("ease", 1), ("hard", 0), ("ease", 2))
+        rings = (ROUND, others, lowest, lowest)
+        self.assertTrue(plainly.stretch_holds(sheet, 0, (None, None, HALVES, rings)))
+        self.assertIs(is_table(sheet, 0, ((None, None, HALVES, rings),)), True)
+        self.assertEqual(lines_of(sheet, 0), [(None, None, HALVES)])
+        # The other way about it does not hold: but at that width.
+        rings = (lowest[1:] + (("ease", 0),), (("ease", 1), ("hard", 0), ("ease", 0)), lowest, lowest)
+        self.assertIs(is_table(sheet, 0, ((None, None, HALVES, rings),)), False)
+
     def test_no_other_thing(self):
         self.assertIs(is_table(FRAME, 0, WHOLE), True)
         first, last, lines, rings = WHOLE[0]
         deep = ((0, 1), (0, 1))
         wrong = [(first, last, lines), (first, last, lines, rings, ()), [first, last, lines, rings],
                  (first, last, list(lines), rings), (first, last, lines, list(rings)), (first, last, lines[:2], rings),
-                 (first, last, lines + (deep,), rings), (first, last, lines, rings[:1]), (first, last, lines, rings * 2),
+                 (first, last, lines + (deep,), rings), (first, last, lines, rings[:1]),
+                 (first, last, lines, rings * 2),
                  (first, last, lines, (ROUND, ROUND[:2])), (first, last, lines, (ROUND, list(ROUND))),
                  (first, last, ((0, 1),) * 3, rings), (first, last, (((0, 1), (False, 1)),) + lines[1:], rings),
                  (first, last, lines[:1] + (((0, 1), (2, 4)),) + lines[2:], rings), (first, last, lines, None),
@@ -277,6 +292,10 @@ class Tables(unittest.TestCase):
             self.assertIs(is_table(FRAME, 0, (stretch,)), False, stretch)
         for thing in ODD_THINGS + (WHOLE + WHOLE, WHOLE[0], [WHOLE[0]], ()):
             self.assertIs(is_table(FRAME, 0, thing), False)
+        for end in ("ab", 5, (5,), [5, 1], (5, 0), (5, True), ("5", 1), (None, None), ((5, 1), (6, 1))):
+            for stretch in ((end, (9, 1), lines, rings), ((0, 1), end, lines, rings), (end, None, lines, rings),
+                            (None, end, lines, rings), (end, end, lines, rings)):
+                self.assertIs(is_table(FRAME, 0, (stretch,)), False)
         one, two = (None, (5, 1), lines, rings), ((5, 1), None, lines, rings)
         self.assertIs(is_table(FRAME, 0, (one, two)), True)
         for thing in ((two, one), (one, one), (one,), (two,), (one, ((6, 1),) + two[1:]), (one, ((4, 1),) + two[1:]),
@@ -319,32 +338,6 @@ class Much(unittest.TestCase):
                 if last is not None:
                     at = plainly.at_width(sheet, 0, Fraction(*last))
                     self.assertTrue(plainly.is_fairest(at, plainly.places_by(lines, Fraction(*last))))
-
-
-def big_sheet(row):
-    """The next SHEET of 8 THINGS and 20 RULES with SCALES of four corners, as great and as fine as the bounds allow."""
-    around, left = [], list(range(8))
-    while left:
-        around.append(left.pop(row.below(len(left))))
-    hard, counted = [(around[-1], around[0], (-1000, 1))], []
-    for i, j in zip(around, around[1:]):
-        counted.append((i, j, big_scale(row)))
-    while len(hard) + len(counted) < 20:
-        i = row.below(8)
-        j = (i + 1 + row.below(7)) % 8
-        if row.below(4) == 0:
-            hard.append((i, j, pair(Fraction(row.between(-1000, 400), row.between(1, 12)))))
-        else:
-            counted.append((i, j, big_scale(row)))
-    return (8, tuple(hard), tuple(counted))
-
-
-def big_scale(row):
-    rows = []
-    for at in range(4):
-        low = (-1000, -500, 0, 500)[at]
-        rows.append((pair(Fraction(low * 3 // 2 + row.between(1, 700), 3)), pair(Fraction(low + row.between(1, 400), 12))))
-    return tuple(rows)
 
 
 class Errors(unittest.TestCase):
