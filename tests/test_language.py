@@ -147,6 +147,8 @@ class Language(unittest.TestCase):
                     self.assertTrue(all(isinstance(own, ast.Constant) for own in node.comparators), f"{place} [L20]")
                 if isinstance(node, ast.Call) and isinstance(node.func, ast.Attribute):
                     self.assertIn(node.func.attr, METHODS | own_methods, f"{place} [L25]")
+                if isinstance(node, ast.Call) and any(isinstance(own, ast.Starred) for own in node.args):
+                    self.assertTrue(all(isinstance(own.value, ast.Name) for own in node.args), f"{place} [L7]")
                 if isinstance(node, (ast.Set, ast.SetComp)):
                     self.fail(f"{place}: no set is written here [L24]")
                 if isinstance(node, ast.Raise):
