@@ -127,17 +127,38 @@ def fraction_text(x):
 
 
 def are_figures(text):
-    """Whether text is at least one figure, and no more than a FRACTION by text may have."""
-    return 1 <= len(text) <= MOST_FIGURES and all(sign in FIGURES for sign in text)
+    """Whether text is one figure or more."""
+    return text != "" and all(sign in FIGURES for sign in text)
+
+
+def has_more_figures(text, most):
+    """Whether text has more signs than so many; never if most is None."""
+    return most is not None and len(text) > most
+
+
+def number_told(text, most=None):
+    """The number, from 0, with this text, of at most so many figures unless most is None; None if there is none."""
+    if not are_figures(text) or has_more_figures(text, most):
+        return None
+    number = int(text)
+    # A text is that of a number only if it is written just as the number itself would be.
+    return number if str(number) == text else None
+
+
+def fraction_told(text, most=None):
+    """The FRACTION with this text, of at most so many figures in top and in bottom unless most is None; None if there
+    is none."""
+    top, slash, bottom = text.partition("/")
+    ahead, behind = number_told(top.removeprefix("-"), most), number_told(bottom if slash else "1", most)
+    if ahead is None or behind is None:
+        return None
+    told = (-ahead if top.startswith("-") else ahead, behind)
+    return told if is_fraction(told) and fraction_text(told) == text else None
 
 
 def fraction_by(text):
     """The FRACTION with this text; BadLine(1) if there is none."""
-    top, slash, bottom = text.partition("/")
-    if not are_figures(top.removeprefix("-")) or (slash and not are_figures(bottom)):
-        raise BadLine(1)
-    told = (int(top), int(bottom) if slash else 1)
-    # A text is that of a FRACTION only if it is written just as the FRACTION itself would be.
-    if not is_fraction(told) or fraction_text(told) != text:
+    told = fraction_told(text, MOST_FIGURES)
+    if told is None:
         raise BadLine(1)
     return told

@@ -238,18 +238,48 @@ def spans(sheet):
     return tuple([(ahead.get(j), minus(ZERO, back[j]) if j in back else None) for j in range(sheet[0])])
 
 
-def hung_lots(sheet):
-    """The set of the sets of THINGS that hang together."""
-    must_have_room(sheet)
+def hung_pairs(sheet):
+    """The list of pairs of THINGS, each there and back, along which all hang together that do; no RING may be without
+    room."""
     hard = hard_net(sheet)
     fast = fast_lots(hard, climb(hard, ZERO)[0])
     pairs = joints_of(counted_net(sheet)) + [(lot[0], own) for lot in fast for own in lot]
-    return tuple(mutual_lots(list(range(sheet[0])), pairs + [(j, i) for i, j in pairs]))
+    return pairs + [(j, i) for i, j in pairs]
+
+
+def hung_lots(sheet):
+    """The set of the sets of THINGS that hang together."""
+    must_have_room(sheet)
+    return tuple(mutual_lots(list(range(sheet[0])), hung_pairs(sheet)))
+
+
+def hung_with_0(sheet):
+    """The dict of True for each THING that hangs together with 0, and 0; no RING may be without room."""
+    return reached(hung_pairs(sheet), 0)
+
+
+def all_hang(sheet):
+    """Whether all THINGS hang together; no RING may be without room."""
+    return len(hung_with_0(sheet)) == sheet[0]
+
+
+def floating_lot(sheet):
+    """The set of the THINGS that do not hang together with 0; no RING may be without room."""
+    hung = hung_with_0(sheet)
+    return tuple([own for own in range(sheet[0]) if own not in hung])
+
+
+def is_floating_lot(sheet, thing):
+    """Whether thing is the set, not (), of the THINGS that do not hang together with 0; no RING may be without room."""
+    if not is_cut(sheet[0], thing):
+        return False
+    hung = hung_with_0(sheet)
+    return len(thing) + len(hung) == sheet[0] and not any(own in hung for own in thing)
 
 
 def stands(sheet):
     """Whether sheet stands."""
-    return no_room(sheet) is None and loose_lot(sheet) is None and len(hung_lots(sheet)) == 1
+    return no_room(sheet) is None and loose_lot(sheet) is None and all_hang(sheet)
 
 
 def standing(sheet):
@@ -259,7 +289,7 @@ def standing(sheet):
     lot = loose_lot(sheet)
     if lot is not None:
         raise Loose(lot)
-    lots = hung_lots(sheet)
-    if len(lots) > 1:
-        raise Afloat(tuple([own for own in range(sheet[0]) if own not in lots[0]]))
+    lot = floating_lot(sheet)
+    if lot:
+        raise Afloat(lot)
     return sheet

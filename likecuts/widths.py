@@ -5,7 +5,7 @@ from likecuts.errors import CanNot, NoPlace, TooMuch, Unfit
 from likecuts.fractions import ZERO, is_fraction, minus, order, plus, times
 from likecuts.nets import farthest
 from likecuts.rates import LESS, MORE, first_stretch, gone_on, held_to
-from likecuts.sheets import hard_net, hung_lots, is_ring, is_thing_of, loose_lot, no_room, tupled
+from likecuts.sheets import all_hang, hard_net, is_ring, is_thing_of, loose_lot, no_room, tupled
 from likecuts.towers import built
 
 MOST_LINES = 400
@@ -25,7 +25,7 @@ def without(sheet, place):
 def has_free(sheet, place):
     """Whether the SHEET is free of this hard RULE, which there is."""
     rest = without(sheet, place)
-    return no_room(rest) is None and len(hung_lots(rest)) == 1 and loose_lot(sheet) is None
+    return no_room(rest) is None and all_hang(rest) and loose_lot(sheet) is None
 
 
 def is_free(sheet, place):

@@ -167,3 +167,105 @@ def big_scale(row):
     """The next SCALE of four corners, far from one another."""
     return tuple((pair(Fraction(low + row.between(1, 400), 3)), pair(Fraction(low + row.between(1, 400), 12)))
                  for low in (-1000, -500, 0, 500))
+
+
+def drawn_lot_sheet(row):
+    """The next SHEET whose THINGS hang on two of them in two or three lots; most stand."""
+    sizes = [row.between(1, 2) for _ in range(row.between(2, 3))][:3]
+    while sum(sizes) > 4:
+        sizes.pop()
+    names = list(range(2 + sum(sizes)))
+    names = [names.pop(row.below(len(names))) for _ in range(len(names))]
+    places = {own: Fraction(row.between(-5, 5), row.one_of((1, 1, 2))) for own in names}
+    a, b, left = names[0], names[1], names[2:]
+    hard, counted = [(b, a, pair(places[a] - places[b] - row.below(3)))], []
+    for size in sizes:
+        lot, left = left[:size], left[size:]
+        steps = list(zip([a] + lot, lot + [b]))
+        for _ in range(row.below(3)):
+            some = [a, b] + lot
+            i = some.pop(row.below(len(some)))
+            steps.append((i, row.one_of(some)))
+        for i, j in steps:
+            if row.below(4) == 0:
+                hard.append((i, j, pair(places[j] - places[i] - row.one_of((0, 0, 1, 2)))))
+            else:
+                counted.append((i, j, row.one_of((PLAIN, row.scale(), row.scale(2)))))
+    return (len(names), tuple(hard), tuple(counted))
+
+
+def drawn_edge(row, boxes):
+    """The next EDGE of one of so many boxes."""
+    return (row.one_of(("front", "back")), row.below(boxes))
+
+
+def drawn_saying(row, boxes):
+    """The next SAYING of so many boxes."""
+    some = ["least", "just", "room", "wide", "row", "pile"] + ["inside"] * (2 if boxes > 1 else 0)
+    word = row.one_of(some)
+    if word in ("least", "just", "room"):
+        edge, other = drawn_edge(row, boxes), drawn_edge(row, boxes)
+        while other == edge:
+            other = drawn_edge(row, boxes)
+        told = row.one_of((PLAIN, row.scale())) if word == "room" else row.fraction(6, (1, 1, 2))
+        return (word, edge, other, told)
+    if word == "inside":
+        box = row.below(boxes)
+        return (word, box, (box + 1 + row.below(boxes - 1)) % boxes, row.one_of((PLAIN, row.scale(2))))
+    left, some = list(range(boxes)), []
+    for _ in range(row.between(1, boxes)):
+        some.append(left.pop(row.below(len(left))))
+    if word == "pile":
+        return (word, row.one_of(("front", "back")), tuple(some))
+    return (word, tuple(some), row.one_of((PLAIN, row.scale(2))))
+
+
+def drawn_plan(row, most=3):
+    """The next PLAN of up to so many boxes, maybe one whose SHEET does not stand."""
+    boxes = row.between(1, most)
+    sayings = [drawn_saying(row, boxes) for _ in range(row.between(0, 4))]
+    if row.below(5):
+        # A page, and each box within it: so most stand.
+        sayings.append(("just", ("front", 0), ("back", 0), (row.between(4, 12), 1)))
+        for box in range(1, boxes):
+            sayings.append(("inside", box, row.below(box), row.one_of((PLAIN, row.scale(2)))))
+            if row.below(2):
+                sayings.append(("least", ("front", box), ("back", box), (row.between(0, 2), 1)))
+            else:
+                sayings.append(("wide", (box,), PLAIN))
+        left, sayings = sayings, []
+        while left:
+            sayings.append(left.pop(row.below(len(left))))
+    return (boxes, tuple(sayings))
+
+
+def drawn_plans(seed, many, most=3):
+    """So many PLANS."""
+    row = Row(seed)
+    return [drawn_plan(row, most) for _ in range(many)]
+
+
+def bent(row, value):
+    """The same value, a tuple of numbers, strings, None and tuples of such, bent in one place."""
+    if isinstance(value, (tuple, list)) and len(value) > 0 and row.below(5):
+        at = row.below(len(value))
+        return value[:at] + (bent(row, value[at]),) + value[at + 1:]
+    kind = row.below(9)
+    if isinstance(value, tuple) and kind < 5:
+        some = list(value)
+        if kind == 0 or not some:
+            return some
+        if kind == 1:
+            some.pop(row.below(len(some)))
+        elif kind == 2:
+            some.insert(row.below(len(some) + 1), row.one_of(some))
+        elif kind == 3:
+            some.reverse()
+        else:
+            some = some[1:] + some[:1]
+        return tuple(some)
+    if isinstance(value, int) and kind < 6:
+        return value + row.one_of((1, -1, 2, -3))
+    if isinstance(value, str) and kind < 4:
+        return row.one_of(("hard", "ease", "front", "back", "least", "just", "row", "wide"))
+    return row.one_of((None, True, False, 0, 1, 2, "", "hard", (), (0, 1), (1, 2), [], [value], (value,), -1))

@@ -506,3 +506,67 @@ def heights(sheet, place, lines, rings, width):
 def ways_of_all(sheet, i, j):
     """All ways from i to j by RULES of both kinds."""
     return ways_by(sheet, marks(sheet), i, j)
+
+
+def lots_with(sheet, a, b):
+    """All sets of THINGS, a and b among them and at least one more."""
+    return [lot for many in range(3, sheet[0] + 1) for lot in combinations(range(sheet[0]), many)
+            if a in lot and b in lot]
+
+
+def bars_of_lot(sheet, a, b, lot):
+    """The marks of the RULES of a THING of lot, but a and b, and of one that is not in lot."""
+    return [mark for mark in marks(sheet) if any(
+        own in lot and own not in (a, b) and not set(rule(sheet, mark)[:2]) <= set(lot)
+        for own in rule(sheet, mark)[:2])]
+
+
+def parts_of(sheet, a, b):
+    """All PARTS of a and b."""
+    return [lot for lot in lots_with(sheet, a, b) if not bars_of_lot(sheet, a, b, lot)]
+
+
+def least_parts(sheet, a, b):
+    """Those PARTS of a and b within which no other one lies."""
+    every = parts_of(sheet, a, b)
+    return sorted(lot for lot in every if not any(set(other) < set(lot) for other in every))
+
+
+def with_gap(sheet, a, b, far):
+    """The SHEET with two hard RULES more behind its hard ones: b lies far, a Fraction, behind a."""
+    return (sheet[0], sheet[1] + ((a, b, pair(far)), (b, a, pair(-far))), sheet[2])
+
+
+def names_in(a, part):
+    """The THINGS of a PART: a first."""
+    return [a] + sorted(set(part) - {a})
+
+
+def by_itself(sheet, a, b, part, far):
+    """A PART by itself, with far, a Fraction."""
+    names = {own: at for at, own in enumerate(names_in(a, part))}
+    rules = [tuple((names[i], names[j], told) for i, j, told in some if i in names and j in names)
+             for some in sheet[1:]]
+    return with_gap((len(names), rules[0], rules[1]), 0, names[b], Fraction(far))
+
+
+def told_from(layout, things):
+    """The places of these THINGS, told from the first one."""
+    return tuple(pair(Fraction(*layout[own]) - Fraction(*layout[things[0]])) for own in things)
+
+
+def bypasses(sheet, k):
+    """All BYPASSES of hard RULE k."""
+    i, j, far = sheet[1][k]
+    return [way for way in all_ways(sheet, i, j)
+            if ("hard", k) not in way and hard_sum(sheet, way) >= Fraction(*far)]
+
+
+def floor_of(layout, t):
+    """The floor of a LAYOUT at t, a Fraction."""
+    return tuple(((Fraction(*own) + t).__floor__(), 1) for own in layout)
+
+
+def fairest_by(sheet, tried):
+    """Whether all THINGS lie at tried in the fairest LAYOUT of sheet; False if it does not stand."""
+    return does_stand(sheet) and is_fairest(sheet, tried)

@@ -4,20 +4,29 @@ import unittest
 from fractions import Fraction
 
 import plainly
-from drawn import PLAIN, Row, drawn_places, drawn_round_sheets, drawn_sheets, pair
+from drawn import PLAIN, Row, drawn_lot_sheet, drawn_places, drawn_plans, drawn_round_sheets, drawn_sheets, pair
 
 from likecuts.apart import alike_widths, first_apart
-from likecuts.cuts import all_like, best_step, is_like, moved_on, unlike_cuts
-from likecuts.edits import edited, moves, spread
+from likecuts.boxes import boxes_of, eases_of, laid, marks_by, saying_of, sheet_of
+from likecuts.cuts import all_like, best_step, complaint, is_like, is_unlike_cut, leaving, moved_on, unlike_cuts
+from likecuts.desk import desk
+from likecuts.edits import edited, moves, moves_nothing, spread
+from likecuts.floors import fairest_floor, floor_steps, floored, floors, is_mean
 from likecuts.fractions import minus, order
-from likecuts.layouts import ease_row, eases, fairer, is_layout
+from likecuts.idle import (bypass, felt_marks, idle_hard, is_felt, is_unfelt_witness, laid_without, lean_sheet,
+                           unfelt_witness)
+from likecuts.judge import is_paper_against, is_paper_for, is_so, paper, verdicts
+from likecuts.layouts import ease_row, eases, fairer, is_layout, mix_of
 from likecuts.levels import top_level
 from likecuts.lots import lots_at, tie
+from likecuts.parts import cut_out, held, least_parts, part_names, part_sheet
 from likecuts.rates import is_bend, rates_back, rates_on, reach_back, reach_on
-from likecuts.reasons import reasons_many, unreasoned
+from likecuts.reasons import held_by, is_reason, reason, reasons_many, unreasoned
 from likecuts.scales import shifted, trimmed
-from likecuts.sheets import chain, hard_gap, hung_lots, spans, stands
-from likecuts.towers import fairest, first_lots, levels_of
+from likecuts.sheets import chain, hard_gap, hung_lots, ring_far, rule_of, spans, stands
+from likecuts.texts import (layout_read, layout_text, plan_read, plan_text, sheet_read, sheet_text, table_read,
+                            table_text)
+from likecuts.towers import fairest, first_lots, levels_of, tower
 from likecuts.widths import bends, is_free, is_table, laid_at, least_width, lines_of, sheet_at, table
 
 
@@ -226,6 +235,207 @@ class Moved(unittest.TestCase):
                 other, mark = turned_about(row, sheet, ("ease", k))
                 self.assertEqual(rates_on(other, mark), rates_on(sheet, ("ease", k)))
                 self.assertEqual(reach_back(other, mark), reach_back(sheet, ("ease", k)))
+
+
+class Whole(unittest.TestCase):
+    """LAYOUTS, floors and CUTS of one SHEET."""
+
+    def test_floors_go_on_by_cuts_and_come_to_the_layout(self):
+        row, seen = Row(581), set()
+        for sheet in self.in_whole_points(582):
+            for layout in (fairest(sheet), plainly.some_layout(sheet, drawn_places(row, sheet[0]))):
+                rows = floors(sheet, layout)
+                seen.add(len(rows))
+                for (one, _), (two, _) in zip(rows, rows[1:]):
+                    cut = tuple(k for k in range(sheet[0]) if one[k] != two[k])
+                    self.assertEqual(moved_on(one, cut, (1, 1)), two)
+                # The mean, mixed one floor behind the other.
+                mean, so_far = rows[0][0], Fraction(*rows[0][1])
+                for own, share in rows[1:]:
+                    so_far += Fraction(*share)
+                    mean = mix_of(sheet, mean, own, pair(Fraction(*share) / so_far))
+                self.assertEqual((mean, so_far), (layout, 1))
+                self.assertEqual(len(floor_steps(sheet, layout)), len(rows))
+        self.assertTrue({1, 2, 3} <= seen)
+
+    def test_none_in_whole_points_is_fairer_than_the_fairest(self):
+        row = Row(584)
+        for sheet in self.in_whole_points(585):
+            layout, some = fairest(sheet), plainly.some_layout(sheet, drawn_places(row, sheet[0]))
+            best = fairest_floor(sheet, some)
+            for own, _ in floors(sheet, some):
+                self.assertGreaterEqual(fairer(sheet, best, own), 0)
+                self.assertGreaterEqual(fairer(sheet, layout, own), 0)
+                self.assertEqual(fairer(sheet, layout, own) == 0, own == layout)
+                self.assertEqual(own == layout, not unlike_cuts(sheet, own))
+            self.assertGreaterEqual(fairer(sheet, layout, floored(sheet)), 0)
+            self.assertEqual(floored(sheet) == layout, all(place[1] == 1 for place in layout))
+            self.assertIs(is_mean(sheet, layout, tuple(floors(sheet, layout))), True)
+
+    def in_whole_points(self, seed):
+        """SHEETS that stand, all far of which are whole."""
+        some = [(sheet[0], tuple((i, j, (Fraction(*far).__floor__(), 1)) for i, j, far in sheet[1]), sheet[2])
+                for sheet in standing_sheets(seed)]
+        return [sheet for sheet in some if stands(sheet)]
+
+
+class Parted(unittest.TestCase):
+    """CUTS, REASONS, idle RULES, EDITS and PARTS of one SHEET."""
+
+    def parted(self, seed, many=40):
+        """SHEETS that stand, each with two THINGS and a least PART of them."""
+        row = Row(seed)
+        for sheet in [drawn_lot_sheet(row) for _ in range(many)] + standing_sheets(seed + 1, 12):
+            if plainly.does_stand(sheet):
+                a, b = (row.below(sheet[0]), row.below(sheet[0])) if sheet[0] > 1 else (0, 0)
+                for part in least_parts(sheet, a, b) if a != b else ():
+                    yield sheet, a, b, part
+
+    def test_cuts_within_a_part_are_like_in_it_as_in_the_whole(self):
+        row, seen = Row(591), set()
+        for sheet, a, b, part in self.parted(592):
+            for layout in (fairest(sheet), plainly.some_layout(sheet, drawn_places(row, sheet[0]))):
+                names = part_names(a, part)
+                alone = part_sheet(sheet, a, b, part, pair(plainly.gap(layout, (a, b))))
+                own = cut_out(layout, a, part)
+                self.assertIs(is_layout(alone, own), True)
+                for cut in plainly.all_cuts(sheet):
+                    if not set(cut) <= set(part) - {a, b}:
+                        continue
+                    within = tuple(sorted(names.index(thing) for thing in cut))
+                    seen.add(is_like(sheet, layout, cut))
+                    self.assertIs(is_like(alone, own, within), is_like(sheet, layout, cut))
+                    self.assertIs(is_unlike_cut(alone, own, within), is_unlike_cut(sheet, layout, cut))
+                    if leaving(sheet, cut):
+                        self.assertEqual(best_step(alone, own, within), best_step(sheet, layout, cut))
+        self.assertEqual(seen, {True, False})
+
+    def test_an_edit_within_a_part_of_what_is_held_moves_no_other_part(self):
+        row, seen = Row(594), 0
+        for sheet, a, b, part in self.parted(595):
+            layout = fairest(sheet)
+            whole = held(sheet, a, b, pair(plainly.gap(layout, (a, b))))
+            self.assertEqual(fairest(whole), layout)
+            for mark in plainly.marks(sheet):
+                if not set(rule_of(sheet, mark)[:2]) <= set(part):
+                    continue
+                edit = ("more", mark, row.fraction(3))
+                if not stands(edited(whole, edit)):
+                    continue
+                told = moves(whole, edit)
+                others = [k for k in range(sheet[0]) if k not in part or k in (a, b)]
+                self.assertEqual(len({told[k] for k in others}), 1)
+                seen += 1
+        self.assertGreater(seen, 60)
+
+    def test_a_rule_is_felt_if_every_reason_has_it(self):
+        seen = set()
+        for sheet in standing_sheets(597, 40):
+            layout, felt = fairest(sheet), felt_marks(sheet)
+            rows = [held_by(sheet, k) for k in range(len(sheet[2]))]
+            for mark in plainly.marks(sheet):
+                others = [row for k, row in enumerate(rows) if mark != ("ease", k)]
+                hang = len(hung_lots(edited(sheet, ("out", mark)))) == 1
+                is_needed = not hang or any(mark in row for row in others)
+                seen.add((mark in felt, mark[0]))
+                self.assertEqual(mark in felt, is_needed)
+                self.assertIs(is_felt(sheet, mark), is_needed)
+                if mark not in felt:
+                    self.assertIs(moves_nothing(sheet, ("out", mark)), True)
+                    self.assertEqual(laid_without(sheet, mark), layout)
+                    self.one_witness(sheet, layout, mark)
+            self.assertEqual(fairest(lean_sheet(sheet)), layout)
+            self.assertEqual(len(felt_marks(lean_sheet(sheet))), len(plainly.marks(lean_sheet(sheet))))
+        self.assertEqual(len(seen), 4)
+
+    def one_witness(self, sheet, layout, mark):
+        told = unfelt_witness(sheet, mark)
+        self.assertIs(is_unfelt_witness(sheet, mark, told), True)
+        for k, ring in enumerate(told):
+            if mark != ("ease", k):
+                self.assertIs(is_reason(sheet, layout, k, ring), True)
+
+    def test_an_idle_rule_can_be_told_more_up_to_its_bypass(self):
+        seen = 0
+        for sheet in standing_sheets(599):
+            for k in idle_hard(sheet):
+                i, j, far = sheet[1][k]
+                seen += 1
+                rest = edited(sheet, ("out", ("hard", k)))
+                gap = hard_gap(rest, i, j)
+                self.assertGreaterEqual(order(gap, far), 0)
+                self.assertIs(moves_nothing(sheet, ("more", ("hard", k), minus(gap, far))), True)
+                self.assertGreaterEqual(order(gap, ring_far(sheet, bypass(sheet, k))), 0)
+                self.assertEqual(ring_far(rest, chain(rest, i, j)), gap)
+                self.assertIs(is_felt(sheet, ("hard", k)), False)
+        self.assertGreater(seen, 40)
+
+
+class Written(unittest.TestCase):
+    """PLANS, CLAIMS, texts and desks tell of the same SHEETS."""
+
+    def test_texts_are_laid_alike(self):
+        for sheet in standing_sheets(601, 30):
+            own = sheet_read(sheet_text(sheet))
+            self.assertEqual((own, layout_read(layout_text(fairest(own)))), (sheet, fairest(sheet)))
+            for place in range(len(sheet[1])):
+                if is_free(sheet, place):
+                    self.assertIs(is_table(sheet, place, table_read(table_text(table(own, place)))), True)
+
+    def test_plans(self):
+        seen = 0
+        for plan in drawn_plans(603, 70):
+            own, sheet = plan_read(plan_text(plan)), sheet_of(plan)
+            self.assertEqual((own, sheet_of(own)), (plan, sheet))
+            for mark in plainly.marks(sheet):
+                self.assertIn(mark, marks_by(plan, saying_of(plan, mark)))
+                self.assertTrue(rule_of(sheet, mark))
+            replies = desk("plan\n " + plan_text(plan).replace("\n", "\n ") + "\nlay\neases\nrules\nstands")
+            self.assertEqual(replies[3:], [sheet_text(sheet), "yes" if stands(sheet) else "no"])
+            if stands(sheet):
+                seen += 1
+                self.assertEqual(laid(plan), boxes_of(fairest(sheet)))
+                self.assertEqual(boxes_of(layout_read(replies[1])), laid(plan))
+                told = [ease for row in eases_of(plan) for ease in row]
+                self.assertEqual(tuple(told), eases(sheet, fairest(sheet)))
+                self.assertEqual(replies[2], layout_text(told)[7:] or "-")
+            self.judged(sheet)
+        self.assertGreater(seen, 25)
+
+    def judged(self, sheet):
+        claim = ("stands", sheet)
+        own = paper(claim)
+        self.assertEqual((is_so(claim), is_paper_for(claim, own), is_paper_against(claim, own)),
+                         (stands(sheet), stands(sheet), not stands(sheet)))
+
+    def test_claims(self):
+        row = Row(605)
+        for sheet in standing_sheets(606, 20):
+            layout = plainly.some_layout(sheet, drawn_places(row, sheet[0]))
+            claims = [("stands", sheet), ("fairest", sheet, fairest(sheet)), ("fairest", sheet, layout)]
+            told = [tower(sheet), tuple(reason(sheet, k) for k in range(len(sheet[2])))]
+            told.append(told[1] if layout == fairest(sheet) else complaint(sheet, layout))
+            right = ["for", "for", "for" if layout == fairest(sheet) else "against"]
+            self.assertEqual(verdicts(claims, told), right)
+            for k in idle_hard(sheet):
+                self.assertIs(is_paper_for(("idle", sheet, k), bypass(sheet, k)), True)
+            top = top_level(sheet)
+            if top is not None:
+                self.assertEqual([is_so(("eased", sheet, own)) for own in (top, minus(top, (-1, 9)))], [True, False])
+
+    def test_desks_do_what_the_functions_do(self):
+        row = Row(608)
+        for sheet in standing_sheets(609, 25):
+            mark = row.one_of(plainly.marks(sheet)) if plainly.marks(sheet) else None
+            if mark is None:
+                continue
+            far = row.fraction()
+            word = " ".join(str(own) for own in mark)
+            text = "sheet\n " + sheet_text(sheet).replace("\n", "\n ")
+            replies = desk(f"{text}\nmore {word} {layout_text([far])[7:]}\nrules\nundo\nout {word}\nrules\nundo\nlay")
+            self.assertEqual(sheet_read(replies[2]), edited(sheet, ("more", mark, far)))
+            self.assertEqual(sheet_read(replies[5]), edited(sheet, ("out", mark)))
+            self.assertEqual(replies[6:], ["out", layout_text(fairest(sheet))])
 
 
 if __name__ == "__main__":

@@ -3,12 +3,13 @@
 import os
 import unittest
 
-from likecuts import (apart, cuts, edits, errors, fractions, layouts, levels, lots, rates, reasons, scales, sheets,
-                      towers, widths)
+from likecuts import (apart, boxes, cuts, desk, edits, errors, floors, fractions, idle, judge, layouts, levels, lots,
+                      parts, rates, reasons, scales, sheets, texts, towers, widths)
 
 MODULES = (errors, fractions, scales, sheets, layouts, levels, towers, cuts, reasons, lots, edits,
-           rates, widths, apart)
-MANY = {4: 5, 5: 5, 6: 7, 7: 4, 8: 7, 9: 7, 10: 7, 11: 6, 12: 5, 13: 5, 14: 7, 15: 7, 16: 6}
+           rates, widths, apart, parts, idle, floors, boxes, judge, texts, desk)
+MANY = {4: 5, 5: 5, 6: 7, 7: 4, 8: 7, 9: 7, 10: 7, 11: 6, 12: 5, 13: 5, 14: 7, 15: 7, 16: 6, 17: 6, 18: 6, 19: 5,
+        20: 4, 21: 6, 22: 8, 23: 4}
 
 
 def read_examples():

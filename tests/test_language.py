@@ -41,8 +41,10 @@ def bound_names(tree):
             yield node.id
 
 
-def is_plain(node):
-    """Whether an expression is a literal: a number, a string, or a tuple, a list, a dict of such."""
+def is_plain(node, names):
+    """Whether an expression is a literal: a number, a string, or a tuple, a list, a dict of such, or of these names."""
+    if isinstance(node, ast.Dict) and all(isinstance(own, ast.Name) for own in node.values):
+        return all(own.id in names for own in node.values) and all(is_plain(own, ()) for own in node.keys)
     try:
         ast.literal_eval(node)
     except ValueError:
@@ -73,7 +75,9 @@ class Language(unittest.TestCase):
             for node in tree.body[1:]:
                 self.assertIsInstance(node, (ast.ImportFrom, ast.FunctionDef, ast.ClassDef, ast.Assign), f"{name} [L3]")
                 if isinstance(node, ast.Assign):
-                    self.assertTrue(is_plain(node.value) and len(node.targets) == 1, f"{name}:{node.lineno} [L3]")
+                    above = [own.name for own in tree.body
+                             if isinstance(own, ast.FunctionDef) and own.lineno < node.lineno]
+                    self.assertTrue(is_plain(node.value, above) and len(node.targets) == 1, f"{name}:{node.lineno} [L3]")
             bound = [own.name for own in tree.body if isinstance(own, (ast.FunctionDef, ast.ClassDef))]
             bound += [own.targets[0].id for own in tree.body if isinstance(own, ast.Assign)]
             bound += [alias.name for own in tree.body if isinstance(own, ast.ImportFrom) for alias in own.names]
@@ -148,7 +152,8 @@ class Language(unittest.TestCase):
                 if isinstance(node, ast.Call) and isinstance(node.func, ast.Attribute):
                     self.assertIn(node.func.attr, METHODS | own_methods, f"{place} [L25]")
                 if isinstance(node, ast.Call) and any(isinstance(own, ast.Starred) for own in node.args):
-                    self.assertTrue(all(isinstance(own.value, ast.Name) for own in node.args), f"{place} [L7]")
+                    beside = [own.value if isinstance(own, ast.Starred) else own for own in node.args]
+                    self.assertTrue(all(isinstance(own, ast.Name) for own in beside), f"{place} [L7]")
                 if isinstance(node, (ast.Set, ast.SetComp)):
                     self.fail(f"{place}: no set is written here [L24]")
                 if isinstance(node, ast.Raise):
