@@ -57,8 +57,8 @@ def is_saying(boxes, thing):
     kinds, told = SHAPES[thing[0]], thing[1:]
     if len(told) != len(kinds) or not all(is_told(boxes, kind, own) for kind, own in zip(kinds, told)):
         return False
-    # Two EDGES of one SAYING are unlike, and so are two boxes.
-    return kinds[0] != kinds[1] or told[0] != told[1]
+    # Two EDGES of one SAYING are unlike, and so are two boxes; parts of unlike kinds are so anyway.
+    return told[0] != told[1]
 
 
 def is_plan(thing):

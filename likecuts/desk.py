@@ -119,8 +119,9 @@ def answer(sheet, word, parts):
     return " ".join([fraction_text(ease) for ease in eases(sheet, layout)]) or "-"
 
 
-def done(held, word, parts, text):
+def done(held, request):
     """Does a request, and tells its reply unless it is refused."""
+    word, parts, text = request
     if word == "undo":
         return held.take_back()
     if word not in DEEDS:
@@ -132,7 +133,7 @@ def done(held, word, parts, text):
 def reply_to(held, request):
     """Does a request, and tells its reply."""
     try:
-        return done(held, *request)
+        return done(held, request)
     except BadLine:
         return "refused BadLine"
     except NoPlace:

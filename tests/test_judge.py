@@ -274,6 +274,27 @@ class Claims(unittest.TestCase):
         self.assertIs(is_paper_for(("stands", FLOATING), ()), False)
         self.assertEqual(paper(("stands", FLOATING)), (2,))
 
+    def test_tables_cut_at_unlike_widths(self):
+        # Half way all of them, by RULES of little ease; of the others now the one has more ease, now the other one.
+        low = tuple(((gap, 1), (gap - 99, 1)) for gap in (0, 1))
+        other = [tuple(((gap, 1), (ease, 1)) for gap, ease in row)
+                 for row in (((0, 1), (4, 3), (5, 7)), ((1, 2), (5, 4), (6, 8)))]
+        sheets = [(3, MAT[1], ((0, 1, PLAIN), (1, 2, scale), (0, 1, low), (1, 2, low))) for scale in other] + [MAT]
+        cuts = [[row[0] for row in table(sheet, 0)[1:]] for sheet in sheets]
+        self.assertEqual([len(own) for own in cuts], [2, 2, 0])
+        self.assertFalse(set(cuts[0]) & set(cuts[1]))
+        for sheet in sheets:
+            for other in sheets:
+                claim = ("alike", sheet, 0, other, 0)
+                own = paper(claim)
+                self.assertIs(is_paper_for(claim, own), True)
+                self.assertEqual(Judge().verdict(claim, own), "for")
+                self.assertIs(is_paper_for(claim, (table(sheet, 0), table(other, 0))),
+                              [row[:3] for row in table(sheet, 0)] == [row[:3] for row in table(other, 0)])
+                self.assertIs(is_paper_for(claim, own + own[:1]), False)
+                self.assertIs(is_paper_for(claim, own[:1]), False)
+                self.assertIs(is_paper_for(claim, (own[0], own[1][:-1])), False)
+
     def test_a_part_has_the_empty_paper(self):
         part, none = ("part", WEB, 0, 3, (0, 1, 3)), ("part", WEB, 0, 1, (0, 1, 2))
         self.assertEqual((paper(part), paper(none)), ((), ("ease", 3)))
@@ -414,14 +435,13 @@ class Many(unittest.TestCase):
                 self.raises(Unfit, call)
 
     def test_too_much(self):
-        for claim, thing in ((("alike", MAT, 0, MORE, 0), None), (("alike", MORE, 0, MAT, 0), (4, 1))):
+        first, other = ("alike", MAT, 0, MORE, 0), ("alike", MORE, 0, MAT, 0)
+        for call in (lambda: is_paper_for(first, None), lambda: is_paper_against(first, (4, 1)), lambda: paper(first),
+                     lambda: verdicts((("stands", BARE), other), ((1,), None)), lambda: is_so(other),
+                     lambda: first_false((("stands", MAT), first, ("stands", BARE)))):
+            self.raises(TooMuch, call)
+        for claim in (first, other):
             self.assertIs(is_claim(claim), True)
-            for call in (lambda: is_paper_for(claim, thing), lambda: is_paper_against(claim, thing),
-                         lambda: verdicts((("stands", BARE), claim), ((1,), thing))):
-                self.raises(TooMuch, call)
-            self.raises(TooMuch, lambda: is_so(claim))
-            self.raises(TooMuch, lambda: paper(claim))
-            self.raises(TooMuch, lambda: first_false((("stands", MAT), claim, ("stands", BARE))))
             # None behind the first that is not so is asked; and what comes of others is not looked at by itself.
             self.assertEqual(first_false((("stands", MAT), ("stands", BARE), claim)), 1)
             self.assertIs(comes_of(claim, (claim,)), True)
@@ -496,10 +516,10 @@ def one_step(claim, found, eases):
 class ComesOf(unittest.TestCase):
     def test_by_all_rules_again_and_again(self):
         row, seen = Row(551), set()
-        wide = (6, (), tuple((0, k, PLAIN) for k in range(1, 6)))
+        wide = [(6, (), tuple((own, k, PLAIN) for k in range(2, 6))) for own in (0, 1)]
         ends = [(MAT, 0), (SHUT, 0), ((3, MAT[1] * 2, MAT[2]), 0), ((3, MAT[1] * 2, MAT[2]), 1), ((3, MAT[1], MAT[2] * 2), 0)]
         eases = [(0, 1), (1, 2), (1, 1), (2, 1), (3, 1)]
-        lots = [lot for lot in plainly.lots_with(wide, 0, 1)]
+        lots = [lot for lot in plainly.lots_with(wide[0], 0, 1)]
         for _ in range(150):
             some = [self.drawn(row, wide, ends, eases, lots) for _ in range(row.below(6))]
             every = closure(some, eases, lots)
@@ -524,7 +544,7 @@ class ComesOf(unittest.TestCase):
             return (word, STACK, row.below(4))
         if word == "part":
             a = row.below(2)
-            return (word, wide, a, 1 - a, row.one_of(lots))
+            return (word, row.one_of(wide), a, 1 - a, row.one_of(lots))
         one, two = row.one_of(ends), row.one_of(ends)
         return (word,) + one + two
 
