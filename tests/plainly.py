@@ -124,6 +124,19 @@ def does_stand(sheet):
             and len(hung(sheet)) == 1)
 
 
+def tells_why(sheet, error):
+    """Whether an error is the one that a SHEET that does not stand raises, with what its attribute may be."""
+    rings, lots = without_room(sheet), loose_lots(sheet)
+    kind, told = error.__class__.__name__, vars(error)
+    if rings:
+        ring = told.get("ring", ())
+        return kind == "NoRoom" and any(ring[at:] + ring[:at] in rings for at in range(len(ring)))
+    if lots:
+        return kind == "Loose" and told.get("lot") in lots
+    floating = tuple(sorted(own for lot in hung(sheet) if 0 not in lot for own in lot))
+    return kind == "Afloat" and told.get("lot") == floating
+
+
 def gap(layout, own):
     return Fraction(*layout[own[1]]) - Fraction(*layout[own[0]])
 

@@ -239,16 +239,8 @@ class Laid(unittest.TestCase):
             for deed in (laid, eases_of):
                 with self.assertRaises((NoRoom, Loose, Afloat)) as caught:
                     deed(plan)
-                error = caught.exception
-                seen.add(error.__class__)
-                if plainly.without_room(sheet):
-                    ring = error.ring
-                    self.assertIn(min(ring[at:] + ring[:at] for at in range(len(ring))), plainly.without_room(sheet))
-                elif plainly.loose_lots(sheet):
-                    self.assertIn(error.lot, plainly.loose_lots(sheet))
-                else:
-                    lots = [lot for lot in plainly.hung(sheet) if 0 not in lot]
-                    self.assertEqual(error.lot, tuple(sorted(own for lot in lots for own in lot)))
+                seen.add(caught.exception.__class__)
+                self.assertTrue(plainly.tells_why(sheet, caught.exception))
         self.assertEqual(seen, {NoRoom, Loose, Afloat})
         with self.assertRaises(Afloat) as caught:
             laid(BARE)

@@ -170,15 +170,8 @@ class Moves(unittest.TestCase):
         for deed in (moves, spread, moves_nothing, movers):
             with self.assertRaises((NoRoom, Loose, Afloat)) as caught:
                 deed(sheet, edit)
-            error = caught.exception
-            if plainly.without_room(bad):
-                turns = [error.ring[at:] + error.ring[:at] for at in range(len(error.ring))]
-                self.assertIn(min(turns), plainly.without_room(bad))
-            elif plainly.loose_lots(bad):
-                self.assertIn(error.lot, plainly.loose_lots(bad))
-            else:
-                self.assertEqual(error.lot, tuple(k for lot in plainly.hung(bad) if 0 not in lot for k in lot))
-        return error.__class__
+            self.assertTrue(plainly.tells_why(bad, caught.exception))
+        return caught.exception.__class__
 
     def test_told_more(self):
         row, seen = Row(315), set()

@@ -184,13 +184,7 @@ class Felt(unittest.TestCase):
             return
         with self.assertRaises((Loose, Afloat)) as caught:
             laid_without(sheet, mark)
-        error = caught.exception
-        if plainly.loose_lots(rest):
-            self.assertIs(error.__class__, Loose)
-            self.assertIn(error.lot, plainly.loose_lots(rest))
-        else:
-            self.assertIs(error.__class__, Afloat)
-            self.assertEqual(error.lot, tuple(sorted(k for lot in plainly.hung(rest) if 0 not in lot for k in lot)))
+        self.assertTrue(plainly.tells_why(rest, caught.exception))
 
     def test_witnesses(self):
         row, seen = Row(444), set()

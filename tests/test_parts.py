@@ -189,6 +189,7 @@ class ByThemselves(unittest.TestCase):
         if not does_stand:
             with self.assertRaises((NoRoom, Loose, Afloat)) as caught:
                 by_parts(sheet, a, b, pair(far))
+            self.assertTrue(plainly.tells_why(whole, caught.exception))
             return caught.exception.__class__
         layout = by_parts(sheet, a, b, pair(far))
         self.assertTrue(plainly.is_fairest(whole, layout))

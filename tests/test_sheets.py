@@ -313,17 +313,10 @@ class Standing(unittest.TestCase):
                 continue
             with self.assertRaises((NoRoom, Loose, Afloat)) as caught:
                 standing(listed(sheet))
-            error = caught.exception
-            seen[error.__class__] = True
+            seen[caught.exception.__class__] = True
+            self.assertTrue(plainly.tells_why(sheet, caught.exception))
             if plainly.without_room(sheet):
-                self.assertTrue(is_no_room(sheet, error.ring))
-            elif plainly.loose_lots(sheet):
-                self.assertIsInstance(error, Loose)
-                self.assertIn(error.lot, plainly.loose_lots(sheet))
-            else:
-                self.assertIsInstance(error, Afloat)
-                lots = plainly.hung(sheet)
-                self.assertEqual(error.lot, tuple(sorted(own for lot in lots if 0 not in lot for own in lot)))
+                self.assertTrue(is_no_room(sheet, caught.exception.ring))
         self.assertEqual(len(seen), 4)
 
     def test_edges(self):

@@ -93,16 +93,8 @@ class Fairest(unittest.TestCase):
             for deed in deeds:
                 with self.assertRaises((NoRoom, Loose, Afloat)) as caught:
                     deed(sheet)
-                error = caught.exception
-                seen[error.__class__] = True
-                if plainly.without_room(sheet):
-                    ring = error.ring
-                    self.assertIn(min(ring[at:] + ring[:at] for at in range(len(ring))), plainly.without_room(sheet))
-                elif plainly.loose_lots(sheet):
-                    self.assertIn(error.lot, plainly.loose_lots(sheet))
-                else:
-                    lots = [lot for lot in plainly.hung(sheet) if 0 not in lot]
-                    self.assertEqual(error.lot, tuple(sorted(own for lot in lots for own in lot)))
+                seen[caught.exception.__class__] = True
+                self.assertTrue(plainly.tells_why(sheet, caught.exception))
         self.assertEqual(len(seen), 3)
 
 
