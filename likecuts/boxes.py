@@ -121,17 +121,12 @@ def counted_said(saying):
     return [(thing_of(edge), thing_of(other), saying[-1]) for edge, other in edges_said(saying)]
 
 
-def made(plan):
-    """The SHEET of a PLAN that is made of tuples."""
-    boxes, sayings = plan
+def sheet_of(plan):
+    """The SHEET of a PLAN."""
+    boxes, sayings = tupled(plan)
     hard = [rule for saying in sayings for rule in hard_said(saying)]
     counted = [rule for saying in sayings for rule in counted_said(saying)]
     return 2 * boxes, tuple(hard), tuple(counted)
-
-
-def sheet_of(plan):
-    """The SHEET of a PLAN."""
-    return made(tupled(plan))
 
 
 def marks_said(plan):
@@ -147,7 +142,7 @@ def marks_said(plan):
 
 def marks_by(plan, number):
     """The tuple of the marks of the RULES that the SAYING of this number makes; NoPlace(number) if there is none."""
-    rows = marks_said(tupled(plan))
+    rows = marks_said(plan)
     if not is_thing_of(len(rows), number):
         raise NoPlace(number)
     return rows[number]
@@ -156,7 +151,7 @@ def marks_by(plan, number):
 def saying_of(plan, mark):
     """The number of the SAYING that makes the RULE with this mark; NoPlace with the number of the mark if none does."""
     mark = tupled(mark)
-    for number, marks in enumerate(marks_said(tupled(plan))):
+    for number, marks in enumerate(marks_said(plan)):
         if mark in marks:
             return number
     raise NoPlace(mark[1])
@@ -175,8 +170,7 @@ def laid(plan):
 
 def eases_of(plan):
     """The tuple with, for each SAYING, the tuple of the eases of its counted RULES in the fairest LAYOUT."""
-    plan = tupled(plan)
-    sheet, layout = laid_out(made(plan))
+    sheet, layout = laid_out(sheet_of(plan))
     told = eases(sheet, layout)
     return tuple([tuple([told[k] for word, k in marks if word == "ease"]) for marks in marks_said(plan)])
 

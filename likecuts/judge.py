@@ -141,14 +141,12 @@ def both_tables(sheet, place, other, spot):
 
 def apart_width(sheet, place, other, spot):
     """A width that is apart, of two SHEETS that are not laid alike at all widths."""
-    start, is_there = first_apart(sheet, place, other, spot)
-    if is_there:
-        return start
+    start, _ = first_apart(sheet, place, other, spot)
     if start is None:
         # From some width back all are apart but single ones.
         start, step, by = ZERO, BACK, TWICE
     else:
-        # So are all just behind this one.
+        # All are just behind this one.
         step, by = ON, HALF
     while not is_apart_width(sheet, place, other, spot, plus(start, step)):
         step = times(step, by)
@@ -276,9 +274,9 @@ def verdicts(claims, things):
 
 
 def comes_of_eased(sheet, ease, claims):
-    """Whether it comes of claims that some LAYOUT is eased so much."""
+    """Whether it comes of claims, itself not one of them, that some LAYOUT is eased so much."""
     for word, *parts in claims:
-        if word == "eased" and parts[0] == sheet and order(parts[1], ease) >= 0:
+        if word == "eased" and parts[0] == sheet and order(parts[1], ease) > 0:
             return True
         if word == "fairest" and parts[0] == sheet and all(order(own, ease) >= 0 for own in eases(*parts)):
             return True

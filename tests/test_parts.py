@@ -242,6 +242,13 @@ class Together(unittest.TestCase):
                 put_together(PAIR, a, b, ())
             with self.assertRaises(Unfit):
                 put_together(PAIR, a, b, [])
+        # Fewer or more of them than there are PARTS.
+        for many in (0, 1, 3):
+            with self.assertRaises(Unfit):
+                put_together(NET, 0, 3, (((0, 1), (1, 1), (4, 1)),) * many)
+        # Lists for some tuples, not for others.
+        mixed = [((0, 1), [1, 1], (4, 1)), [[0, 1], (3, 1), [4, 1]]]
+        self.assertEqual(put_together(NET, 0, 3, mixed), ((0, 1), (1, 1), (3, 1), (4, 1)))
         # One alone, a or b wherever it is told.
         self.assertEqual(put_together(FRAME, 0, 2, (((5, 1), (6, 1), (9, 1)),)), ((0, 1), (1, 1), (4, 1)))
         self.assertEqual(put_together(FRAME, 2, 0, (((5, 1), (6, 1), (9, 1)),)), ((0, 1), (3, 1), (-1, 1)))
